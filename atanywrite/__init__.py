@@ -1,0 +1,1 @@
+"""Rows of writes whose power can be lost at any write."""

@@ -1,0 +1,63 @@
+"""Names, numbers and sets, and arguments taken with lists for tuples."""
+
+LETTERS = "abcdefghijklmnopqrstuvwxyz"
+LONGEST_NAME = 8
+COPY = "copy"
+# A TERM that begins with one of these is no function's.
+NO_FUNCTIONS = ("old", "spoilt")
+
+
+def frozen(value):
+    """The value with tuples in the place of lists, at any depth."""
+    if isinstance(value, (list, tuple)):
+        return tuple([frozen(part) for part in value])
+    return value
+
+
+def as_set(values):
+    """The ascending tuple, without duplicates, of these names or numbers."""
+    return tuple(sorted(set(values)))
+
+
+def is_number(thing):
+    return isinstance(thing, int) and not isinstance(thing, bool)
+
+
+def is_name(thing):
+    if not isinstance(thing, str) or not 1 <= len(thing) <= LONGEST_NAME:
+        return False
+    return all([sign in LETTERS for sign in thing])
+
+
+def is_function(thing):
+    """Whether thing is a NAME that a function may have."""
+    return is_name(thing) and thing not in NO_FUNCTIONS
+
+
+def ascends(values):
+    """Whether these values of one kind ascend without duplicates."""
+    return all([low < high for low, high in zip(values, values[1:])])
+
+
+def is_name_set(thing):
+    """Whether thing is a set of one or more NAMEs."""
+    if not isinstance(thing, tuple) or thing == ():
+        return False
+    return all([is_name(name) for name in thing]) and ascends(thing)
+
+
+def is_number_set(thing, low, high):
+    """Whether thing is a set, maybe (), of numbers from low to high."""
+    if not isinstance(thing, tuple) or not all([is_number(number) for number in thing]):
+        return False
+    return ascends(thing) and all([low <= number <= high for number in thing])
+
+
+def is_call(name, reads, known):
+    """Whether a function called name may read these; known has what can be read as its keys."""
+    if not is_function(name) or not isinstance(reads, tuple):
+        return False
+    # What is no string may be no key of a dict either.
+    if not all([isinstance(cell, str) and cell in known for cell in reads]):
+        return False
+    return len(set(reads)) == len(reads) and (name != COPY or len(reads) == 1)
