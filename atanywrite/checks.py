@@ -1,11 +1,18 @@
 """Checks of arguments that raise the errors which the document states for them."""
 
-from atanywrite.errors import Known, NoCell, NoNumber
+from atanywrite.errors import Known, NoBlock, NoCell, NoNumber
 
 
 def need_cell(cells, name):
     if name not in cells:
         raise NoCell(name)
+
+
+def need_blocks(change, names):
+    """Each of these names has to be a block of the CHANGE."""
+    for name in names:
+        if name not in change[0]:
+            raise NoBlock(name)
 
 
 def need_new(names, name):
@@ -17,3 +24,8 @@ def need_number(number, low, high):
     """Numbers from low to high are right, these two, too."""
     if not low <= number <= high:
         raise NoNumber(number)
+
+
+def need_spares(spares):
+    if spares < 1:
+        raise NoNumber(spares)

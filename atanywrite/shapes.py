@@ -9,9 +9,22 @@ NO_FUNCTIONS = ("old", "spoilt")
 
 def frozen(value):
     """The value with tuples in the place of lists, at any depth."""
-    if isinstance(value, (list, tuple)):
-        return tuple([frozen(part) for part in value])
-    return value
+    # TERMS may be deeper than calls may be nested, so what is left to do is kept in a list.
+    todo = [(value, False)]
+    made = []
+    while todo:
+        part, has_parts_made = todo.pop()
+        if not isinstance(part, (list, tuple)):
+            made.append(part)
+        elif has_parts_made:
+            ahead = len(made) - len(part)
+            whole = tuple(made[ahead:])
+            del made[ahead:]
+            made.append(whole)
+        else:
+            todo.append((part, True))
+            todo.extend([(inner, False) for inner in part[::-1]])
+    return made[0]
 
 
 def as_set(values):
@@ -61,3 +74,14 @@ def is_call(name, reads, known):
     if not all([isinstance(cell, str) and cell in known for cell in reads]):
         return False
     return len(set(reads)) == len(reads) and (name != COPY or len(reads) == 1)
+
+
+def is_same(thing, value):
+    """Whether thing is this value of numbers, strings and tuples: True is no 1 in it, a list no tuple."""
+    if isinstance(value, tuple):
+        if not isinstance(thing, tuple) or len(thing) != len(value):
+            return False
+        return all([is_same(part, other) for part, other in zip(thing, value)])
+    if isinstance(value, str):
+        return isinstance(thing, str) and thing == value
+    return is_number(thing) and thing == value

@@ -2,9 +2,25 @@
 
 import unittest
 
-from atanywrite import errors, rows, texts
+from atanywrite import errors, losses, marks, orders, rows, terms, texts
 from atanywrite.errors import RowError
 
+TERMS = '''
+>>> moves = (("f", ("a",), "b"), ("copy", ("b",), "c"), ("g", ("a", "c"), "a"), ("h", ("b",), "b"))
+>>> row = (("a", "b", "c"), ("a", "c"), moves, (2,))
+>>> end_terms(row), content(row, "c", 2)
+((('g', (('old', 'a'), ('f', (('old', 'a'),)))), ('f', (('old', 'a'),))), ('f', (('old', 'a'),)))
+>>> sources(row, 2), writes_for(row, 0), counting(row), dead_moves(row), last_use(row, 0), last_use(row, 1), last_use(row, 3)
+((None, 1), (1, 3), (0, 1, 2), (3,), 1, 4, None)
+>>> is_why(row, 0, (0, 1)), is_why(row, 0, (0, 1, 2)), is_why(row, 0, (0, 3)), old_needed(row), old_lost(row, 4), alike_cells(row, "c", 2)
+(True, True, False, ('a',), ('a', 'b', 'c'), ('b', 'c'))
+>>> lean(row) == (row[0], row[1], moves[:3], (2,)), free_swaps(row), written_by(row, "c", 1), next_write(row, "b", 1)
+(True, (2,), None, 3)
+>>> term_size(end_terms(row)[0]), term_depth(end_terms(row)[0]), first_unlike(("f", (("old", "a"),)), ("f", (("old", "b"),))), part_of(end_terms(row)[0], (1, 0))
+(4, 3, (0,), ('old', 'a'))
+>>> swap_free(row, 0)
+raises Unfit()
+'''
 ROWS_AND_TEXTS = '''
 >>> row = (("a", "b", "s"), ("a", "b"), (("copy", ("a",), "s"), ("f", ("a", "b"), "a"), ("g", ("s",), "b")), (1,))
 >>> spots(row), stretches(row), stretch_of(row, 2), readers(row, "a"), writers(row, "b"), functions(row), read_cells(row)
@@ -18,6 +34,59 @@ raises BadText(piece=2)
 >>> without_cell(row, "s")
 raises Unfit()
 '''
+LOSSES = '''
+>>> cells, moves = ("a", "b", "t"), (("copy", ("a",), "t"), ("copy", ("b",), "a"), ("copy", ("t",), "b"))
+>>> swap, sure = (cells, ("a", "b"), moves, ()), (cells, ("a", "b"), moves, (1, 2))
+>>> keeps(swap), hazards(swap), losses_against(swap), keeps(sure), hazards((cells, ("a", "b"), moves, (1,)))
+(False, ((0, 'a', 1), (1, 'b', 2)), (1, 2), True, ((1, 'b', 2),))
+>>> end_of(swap, ()), end_of(swap, (1,)), end_of(swap, (2,)), end_of(sure, (1, 1)) == end_of(sure, ())
+((('old', 'b'), ('old', 'a')), (('old', 'b'), ('spoilt', 0)), (('spoilt', 0), ('old', 'b')), True)
+>>> begun(swap, (2, 1)), begun(sure, (2, 2)), play_from(swap, (0, 1, 0, 1, 2)), most_begun(swap, 2), most_begun(sure, 2)
+((0, 1, 2, 0, 1, 0, 1, 2), (0, 1, 2, 2, 2), (1,), 9, 5)
+>>> keep_paper(sure)[1], is_harm_paper(swap, ((0, "a", 1), "b")), is_harm_paper(swap, ((0, "a", 1), "a")), can_differ(swap, 3), loss_for(swap, "a")
+(((1, 2), ('b',), ('a',)), True, False, ('a', 'b', 't'), 2)
+>>> plus = (("n",), ("n",), (("add", ("n",), "n"),), ())
+>>> hazards(plus), end_of(plus, (0,)), contents_along(plus, (0,))[1], fewest_losses(swap, ("a", "b"))
+(((0, 'n', 0),), (('add', (('spoilt', 0),)),), (('spoilt', 0),), 1)
+>>> idle = (("a", "b", "t"), ("a",), (("f", ("a",), "t"), ("g", ("b",), "a")), ())
+>>> keeps(idle), read_first(idle, 0), written_in(idle, 0), can_differ(idle, 2)
+(True, ('b',), ('a', 't'), ('t',))
+>>> read_first(idle, 1)
+raises NoNumber(number=1)
+'''
+MARKS = '''
+>>> moves = (("f", ("a",), "x"), ("g", ("z",), "b"), ("h", ("y",), "a"), ("i", ("b",), "c"), ("j", ("z",), "b"))
+>>> row = (("a", "b", "c", "x", "y", "z"), ("a", "b", "c", "x"), moves, ())
+>>> wants(row), far_ends(row), span_holds(row, 1, 5), span_holds(row, 2, 5)
+(((0, 0, 1, 2), (2, 3, 4, 4)), (2, 5, 4, 4, 5), True, False)
+>>> fewest_marking(row), from_end(row), how_many_markings(row), in_all(row), unmet(row, (2,)), cheapest_marking(row, (5, 1, 1, 1))
+((1,), (1,), 7, (), ((2, 3, 4, 4),), (2, (2, 4)))
+>>> is_heights(row, (0, 1, 1, 2, 2, 2)), is_heights(row, (0, 1, 1, 2, 2, 3)), helping_marks(row), least_more(row[:3] + ((3,),))
+(True, False, (1,), (1, 3, 4))
+>>> idle_marks(row[:3] + ((1, 4),)), spoiling_marks(row[:3] + ((1,),))
+((4,), (2, 3))
+>>> own = (("b",), ("b",), (("f", ("b",), "b"),), ())
+>>> wants(own), fewest_marks(own), is_bar(own, (0,))
+(((0, 0, 1, 0),), None, True)
+'''
+ORDERS = '''
+>>> change = (("a", "b", "c", "d"), (("f", ("b",)), ("g", ("a",)), ("h", ("a", "b", "c")), ("copy", ("d",))))
+>>> needs_along(change, ("a", "b", "c", "d")), spares_for(change, ("a", "b", "c", "d")), needs_along(change, ("c", "d", "a", "b")), tight_places(change, ("a", "b", "c", "d"))
+((5, 6, 7, 4), 3, (5, 4, 5, 5), (2,))
+>>> least_spares(change), best_order(change), how_many_right(change, 1), goes_behind(change), let_go(change, ("c",), "a"), saving_turns(change, ("a", "b", "c", "d"))
+(1, ('c', 'a', 'b', 'd'), 8, (('a', 'c'), ('b', 'c')), ('b',), (1,))
+>>> ring = (("p", "q", "r"), (("f", ("p", "q")), ("f", ("q", "r")), ("f", ("r", "p"))))
+>>> least_spares(ring), fence(ring, 1), is_fence(ring, 1, ((), ("p",))), fence(ring, 2), stuck_sets(ring, 1)
+(2, ((), ('p',), ('q',), ('r',)), False, None, (('p',), ('q',), ('r',)))
+>>> twin = (("a", "b"), (("f", ("a", "b")), ("f", ("a", "b"))))
+>>> needs_along(twin, ("b", "a")), least_spares(with_recipe(twin, "b", ("g", ("a", "b")))), held_at(twin, ("a",), "b") == (("f", (("old", "a"), ("old", "b"))), ("old", "a"), ("old", "b"))
+((3, 3), 2, True)
+>>> spares_for(change, ("a", "b", "c", "c"))
+raises Unfit()
+'''
+# For each session how many answers it has.
+SESSIONS = [(TERMS, 6), (ROWS_AND_TEXTS, 5), (LOSSES, 7), (MARKS, 5), (ORDERS, 5)]
+MODULES = (errors, rows, texts, terms, losses, marks, orders)
 
 
 def told(error):
@@ -27,7 +96,8 @@ def told(error):
 
 def play(session):
     """For each line of the session that has an answer: the line, this answer, and what came."""
-    names = {**vars(errors), **vars(rows), **vars(texts)}
+    names = {name: worth for module in MODULES for name, worth in vars(module).items()
+             if getattr(worth, "__module__", None) == module.__name__}
     lines = session.strip().split("\n")
     played = []
     for at, line in enumerate(lines):
@@ -46,11 +116,12 @@ def play(session):
 
 
 class ExamplesTest(unittest.TestCase):
-    def test_rows_and_texts(self):
-        played = play(ROWS_AND_TEXTS)
-        self.assertEqual(len(played), 5)
-        for line, answer, came in played:
-            self.assertEqual(came, answer, line)
+    def test_sessions(self):
+        for session, many in SESSIONS:
+            played = play(session)
+            self.assertEqual(len(played), many)
+            for line, answer, came in played:
+                self.assertEqual(came, answer, line)
 
 
 if __name__ == "__main__":

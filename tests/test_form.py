@@ -12,7 +12,10 @@ CALLED = (
     "len range enumerate zip min max sum abs sorted reversed int str bool list tuple dict set frozenset isinstance "
     "ord repr any all divmod pow map iter next getattr hasattr setattr super"
 ).split()
-NOT_USED = (ast.Import, ast.AsyncFunctionDef, ast.Div)
+NOT_USED = (
+    ast.Import, ast.AsyncFunctionDef, ast.Div, ast.GeneratorExp, ast.Try, ast.Global, ast.Nonlocal, ast.Lambda, ast.Yield,
+    ast.JoinedStr,
+)
 
 
 def tree_of(path):

@@ -6,47 +6,8 @@ import unittest
 
 from atanywrite import rows, texts
 from atanywrite.errors import RowError
-from tests.common import CHANGE, FULL, ROW, SINGLE, STILL, has_list, listed
-
-MOVE = ("h", ("a", "b"), "b")
-SMALL = (("a",), ("a",), (("f", (), "a"), ("g", ("a",), "a")), (1,))
-
-# For each function its parameters and samples of arguments; those called thing keep their tuples.
-SAMPLES = {
-    rows.is_row: (("thing",), [(ROW,), (1,)]),
-    rows.is_move: (("row", "thing"), [(ROW, MOVE), (ROW, 1)]),
-    rows.is_change: (("thing",), [(CHANGE,), ("x",)]),
-    rows.is_order: (("change", "thing"), [(CHANGE, ("b", "a", "d", "c")), (CHANGE, None)]),
-    rows.spots: (("row",), [(ROW,), (STILL,)]),
-    rows.stretches: (("row",), [(ROW,), (STILL,)]),
-    rows.stretch_of: (("row", "number"), [(ROW, 2), (ROW, 3)]),
-    rows.is_marked: (("row", "number"), [(ROW, 1), (ROW, 2)]),
-    rows.readers: (("row", "cell"), [(ROW, "a"), (ROW, "x")]),
-    rows.writers: (("row", "cell"), [(ROW, "a"), (ROW, "x")]),
-    rows.read_cells: (("row",), [(ROW,), (STILL,)]),
-    rows.written_cells: (("row",), [(ROW,), (STILL,)]),
-    rows.functions: (("row",), [(ROW,), (STILL,)]),
-    rows.with_move: (("row", "number", "move"), [(ROW, 1, MOVE), (STILL, 0, MOVE), (ROW, 9, MOVE)]),
-    rows.without_move: (("row", "number"), [(ROW, 1), (SINGLE, 0), (ROW, 3)]),
-    rows.swapped: (("row", "number"), [(ROW, 1), (ROW, 2)]),
-    rows.with_mark: (("row", "number"), [(ROW, 2), (ROW, 1)]),
-    rows.without_mark: (("row", "number"), [(ROW, 1), (ROW, 2)]),
-    rows.all_marked: (("row",), [(ROW,), (STILL,)]),
-    rows.unmarked: (("row",), [(ROW,), (STILL,)]),
-    rows.with_cell: (("row", "cell"), [(ROW, "c"), (ROW, "a")]),
-    rows.without_cell: (("row", "cell"), [(STILL, "a"), (ROW, "a"), (ROW, "x")]),
-    rows.with_wanted: (("row", "cells"), [(ROW, ("s",)), (ROW, ()), (ROW, ("a", "x"))]),
-    rows.renamed: (("row", "cell", "new"), [(ROW, "a", "z"), (ROW, "x", "y"), (ROW, "a", "a"), (ROW, "a", "A")]),
-    rows.joined: (("row", "other"), [(ROW, SMALL), (SMALL, ROW), (STILL, SMALL)]),
-    rows.cut: (("row", "number"), [(ROW, 1), (ROW, 4)]),
-    texts.names_text: (("names",), [(("a", "b"),), ((),)]),
-    texts.numbers_text: (("numbers",), [((1, 0),), ((),)]),
-    texts.moves_text: (("moves",), [(ROW[2],), ((),)]),
-    texts.row_text: (("row",), [(ROW,), (FULL,), (STILL,)]),
-    texts.names_from: (("text",), [("a b",), ("-",), ("",)]),
-    texts.numbers_from: (("text",), [("1 0",), ("-",), ("",)]),
-    texts.row_from: (("text",), [("cells a; wanted a; f to a",), ("cells a",), ("cells a; wanted b",)]),
-}
+from tests.common import ROW, has_list, listed
+from tests.samples import LISTED, LISTS, SAMPLES
 
 
 def answer(function, *values, **named):
@@ -68,13 +29,13 @@ def with_lists(names, values):
 
 class GeneralTest(unittest.TestCase):
     def test_the_interface_stands_where_it_is_listed(self):
-        for module in (rows, texts):
+        for module, many in LISTED.items():
             defined = {made.__name__: made for made in vars(module).values()
                        if inspect.isfunction(made) and made.__module__ == module.__name__}
             public = sorted(name for name in defined if not name.startswith("_"))
             listed_here = [function for function in SAMPLES if function.__module__ == module.__name__]
             self.assertEqual(public, sorted(function.__name__ for function in listed_here))
-        self.assertEqual(len(SAMPLES), 33)
+            self.assertEqual(len(public), many, module.__name__)
 
     def test_parameters_have_their_names(self):
         for function, (names, _) in SAMPLES.items():
@@ -108,10 +69,22 @@ class GeneralTest(unittest.TestCase):
                 with self.subTest(function.__name__, values=others):
                     self.assertEqual(answer(function, *others), answer(function, *values))
 
-    def test_nothing_that_is_returned_has_a_list(self):
+    def test_only_several_results_are_a_list(self):
         for function, names, values in calls():
             with self.subTest(function.__name__, values=values):
-                self.assertFalse(has_list(answer(function, *with_lists(names, values))[1]))
+                kind, told = answer(function, *with_lists(names, values))
+                if kind == "told" and function in LISTS:
+                    self.assertIsInstance(told, list)
+                    told = tuple(told)
+                self.assertFalse(has_list(told))
+
+    def test_lists_are_new(self):
+        for function, names, values in calls():
+            told = answer(function, *values)[1]
+            if isinstance(told, list):
+                before = list(told)
+                told.append(None)
+                self.assertEqual(function(*values), before)
 
     def test_arguments_are_unchanged(self):
         for function, names, values in calls():

@@ -1,0 +1,113 @@
+"""How much is held while the blocks of a CHANGE are made; sets of blocks and of TERMS are told by numbers."""
+
+from atanywrite.shapes import COPY
+
+
+def recipe_term(recipe):
+    """The TERM that this recipe makes of the old blocks."""
+    name, reads = recipe
+    olds = tuple([("old", block) for block in reads])
+    return olds[0] if name == COPY else (name, olds)
+
+
+class Room:
+    """In a number that tells a set, the bit at a place tells the block there; behind these come the TERMS made."""
+
+    def __init__(self, change):
+        blocks, recipes = change
+        self.blocks = blocks
+        self.many = len(blocks)
+        bits = {block: 1 << place for place, block in enumerate(blocks)}
+        # Old blocks have the same bits as TERMS and as what is read.
+        terms = {("old", block): bits[block] for block in blocks}
+        for recipe in recipes:
+            terms.setdefault(recipe_term(recipe), 1 << len(terms))
+        self.made = [terms[recipe_term(recipe)] for recipe in recipes]
+        self.reads = [sum([bits[block] for block in reads]) for name, reads in recipes]
+
+    def places_in(self, some):
+        """The places of the blocks in this set, ascending."""
+        return [place for place in range(self.many) if some >> place & 1]
+
+    def names_in(self, some):
+        """The tuple of the blocks in this set."""
+        return tuple([self.blocks[place] for place in self.places_in(some)])
+
+    def number_of(self, names):
+        """The number that tells the set of these blocks."""
+        return sum([1 << place for place in range(self.many) if self.blocks[place] in names])
+
+    def whole(self):
+        """The set of all blocks."""
+        return (1 << self.many) - 1
+
+    def needed(self, some):
+        """The old blocks that the recipes of all but these read."""
+        return _together([self.reads[place] for place in self.places_in(self.whole() - some)])
+
+    def held(self, some, place):
+        """The TERMS that are held where these are made and the block at the place is next."""
+        return self.needed(some) | _together([self.made[other] for other in self.places_in(some)]) | self.made[place]
+
+    def let(self, some, spares):
+        """The places of the blocks that are let next where these are made."""
+        left = self.places_in(self.whole() - some)
+        return [place for place in left if how_many_in(self.held(some, place)) <= self.many + spares]
+
+
+def _together(sets):
+    """The set of all that is in one of these."""
+    found = 0
+    for one in sets:
+        found = found | one
+    return found
+
+
+def how_many_in(number):
+    """How many bits of the number are set."""
+    many = 0
+    while number > 0:
+        number = number & (number - 1)
+        many += 1
+    return many
+
+
+def steps_from(room, some, spares, behind):
+    """For each set that comes from this one the places let next; behind has for each the set ahead of which none is."""
+    steps = {}
+    todo = [some]
+    while todo:
+        made = todo.pop()
+        if made not in steps:
+            let = room.let(made, spares)
+            steps[made] = [place for place in let if behind[place] & made == behind[place]]
+            todo.extend([made | 1 << place for place in steps[made]])
+    return steps
+
+
+def ways_on(room, steps):
+    """For each of the sets in how many ways these steps lead from it to the whole."""
+    ways = {}
+    for made in sorted(list(steps), reverse=True):
+        if made == room.whole():
+            ways[made] = 1
+        else:
+            ways[made] = sum([ways[made | 1 << place] for place in steps[made]])
+    return ways
+
+
+def order_with(room, steps, number):
+    """The ORDER with this number among those that the steps lead through, in ascending order."""
+    ways = ways_on(room, steps)
+    order = []
+    made = 0
+    left = number
+    while made != room.whole():
+        for place in steps[made]:
+            many = ways[made | 1 << place]
+            if left < many:
+                order.append(room.blocks[place])
+                made = made | 1 << place
+                break
+            left -= many
+    return tuple(order)
