@@ -8,10 +8,10 @@ def need_cell(cells, name):
         raise NoCell(name)
 
 
-def need_blocks(change, names):
-    """Each of these names has to be a block of the CHANGE."""
+def need_blocks(blocks, names):
+    """Each of these names has to be one of the blocks."""
     for name in names:
-        if name not in change[0]:
+        if name not in blocks:
             raise NoBlock(name)
 
 

@@ -2,14 +2,14 @@
 
 from atanywrite.checks import need_blocks, need_new, need_number, need_spares
 from atanywrite.errors import Unfit
-from atanywrite.rooms import Room, how_many_in, order_with, recipe_term, steps_from, ways_on
+from atanywrite.rooms import Room, can_come, how_many_in, order_with, recipe_term, steps_of, ways_on
 from atanywrite.rows import is_change, is_order
 from atanywrite.shapes import as_set, ascends, frozen
 
 
 def reads_of(change, block):
     """The set of the old blocks that the block's recipe reads."""
-    need_blocks(change, [block])
+    need_blocks(change[0], [block])
     return as_set(_recipe_of(change, block)[1])
 
 
@@ -19,19 +19,19 @@ def _recipe_of(change, block):
 
 def readers_of(change, block):
     """The set of the blocks whose recipes read this old one."""
-    need_blocks(change, [block])
+    need_blocks(change[0], [block])
     return tuple([other for other in change[0] if block in reads_of(change, other)])
 
 
 def term_of(change, block):
     """The TERM that the block's recipe makes."""
-    need_blocks(change, [block])
+    need_blocks(change[0], [block])
     return recipe_term(_recipe_of(change, block))
 
 
 def needed_behind(change, some):
     """The set of the old blocks that the recipes of all blocks but these read."""
-    need_blocks(change, some)
+    need_blocks(change[0], some)
     left = [block for block in change[0] if block not in some]
     return as_set([read for block in left for read in reads_of(change, block)])
 
@@ -51,14 +51,14 @@ def held_at(change, some, block):
 
 
 def _need_next(change, some, block):
-    need_blocks(change, [*some, block])
+    need_blocks(change[0], [*some, block])
     if block in some:
         raise Unfit()
 
 
 def let_next(change, some, spares):
     """The set of the blocks that are let next behind these."""
-    need_blocks(change, some)
+    need_blocks(change[0], some)
     need_spares(spares)
     room = Room(frozen(change))
     return tuple([room.blocks[place] for place in room.let(room.number_of(some), spares)])
@@ -66,14 +66,14 @@ def let_next(change, some, spares):
 
 def can_go_on(change, some, spares):
     """Whether, these being made, all others can be made one behind another, each let next."""
-    need_blocks(change, some)
+    need_blocks(change[0], some)
     need_spares(spares)
     room = Room(frozen(change))
-    return room.whole() in _steps(room, room.number_of(some), spares)
+    return can_come(room, room.number_of(some), spares)
 
 
-def _steps(room, some, spares):
-    return steps_from(room, some, spares, [0] * room.many)
+def _steps(room, spares):
+    return steps_of(room, spares, [0] * room.many)
 
 
 def needs_along(change, order):
@@ -83,7 +83,7 @@ def needs_along(change, order):
 
 
 def _need_order(change, order):
-    need_blocks(change, order)
+    need_blocks(change[0], order)
     if not is_order(change, frozen(order)):
         raise Unfit()
 
@@ -118,7 +118,7 @@ def least_spares(change):
     """The least SPARES with which some ORDER is right."""
     room = Room(frozen(change))
     spares = 1
-    while room.whole() not in _steps(room, 0, spares):
+    while not can_come(room, 0, spares):
         spares += 1
     return spares
 
@@ -132,7 +132,7 @@ def right_orders(change, spares):
     """The ascending list of the ORDERS that are right with so many SPARES."""
     need_spares(spares)
     room = Room(frozen(change))
-    steps = _steps(room, 0, spares)
+    steps = _steps(room, spares)
     ways = ways_on(room, steps)
     # Blocks come in ascending order at each step, so the ORDERS do, too.
     found = [((), 0)]
@@ -150,21 +150,21 @@ def how_many_right(change, spares):
     """How many ORDERS are right with so many SPARES."""
     need_spares(spares)
     room = Room(frozen(change))
-    return ways_on(room, _steps(room, 0, spares))[0]
+    return ways_on(room, _steps(room, spares))[0]
 
 
 def nth_right(change, spares, number):
     """The ORDER with this number among those that are right with so many SPARES."""
     need_number(number, 0, how_many_right(change, spares) - 1)
     room = Room(frozen(change))
-    return order_with(room, _steps(room, 0, spares), number)
+    return order_with(room, _steps(room, spares), number)
 
 
 def made_sets(change, spares):
     """The set of the sets that come."""
     need_spares(spares)
     room = Room(frozen(change))
-    return _named(room, list(_steps(room, 0, spares)))
+    return _named(room, list(_steps(room, spares)))
 
 
 def _named(room, sets):
@@ -175,7 +175,7 @@ def stuck_sets(change, spares):
     """The set of the sets that come, but the whole, where no block is let next."""
     need_spares(spares)
     room = Room(frozen(change))
-    steps = _steps(room, 0, spares)
+    steps = _steps(room, spares)
     return _named(room, [some for some in list(steps) if steps[some] == [] and some != room.whole()])
 
 
@@ -247,7 +247,7 @@ def order_behind(change):
     room = Room(frozen(change))
     pairs = goes_behind(change)
     behind = [room.number_of([other for one, other in pairs if one == block]) for block in room.blocks]
-    return order_with(room, steps_from(room, 0, least_spares(change), behind), 0)
+    return order_with(room, steps_of(room, least_spares(change), behind), 0)
 
 
 def beside(one, other):
@@ -262,7 +262,7 @@ def beside(one, other):
 
 def with_recipe(change, block, recipe):
     """The CHANGE with this recipe for the block."""
-    need_blocks(change, [block])
+    need_blocks(change[0], [block])
     blocks, recipes = frozen(change)
     told = [frozen(recipe) if own == block else old for own, old in zip(blocks, recipes)]
     if not is_change((blocks, tuple(told))):

@@ -22,8 +22,8 @@ class Room:
         terms = {("old", block): bits[block] for block in blocks}
         for recipe in recipes:
             terms.setdefault(recipe_term(recipe), 1 << len(terms))
-        self.made = [terms[recipe_term(recipe)] for recipe in recipes]
-        self.reads = [sum([bits[block] for block in reads]) for name, reads in recipes]
+        self.term_bits = [terms[recipe_term(recipe)] for recipe in recipes]
+        self.read_bits = [sum([bits[block] for block in reads]) for name, reads in recipes]
 
     def places_in(self, some):
         """The places of the blocks in this set, ascending."""
@@ -43,11 +43,12 @@ class Room:
 
     def needed(self, some):
         """The old blocks that the recipes of all but these read."""
-        return _together([self.reads[place] for place in self.places_in(self.whole() - some)])
+        return _together([self.read_bits[place] for place in self.places_in(self.whole() - some)])
 
     def held(self, some, place):
         """The TERMS that are held where these are made and the block at the place is next."""
-        return self.needed(some) | _together([self.made[other] for other in self.places_in(some)]) | self.made[place]
+        terms = _together([self.term_bits[other] for other in [place, *self.places_in(some)]])
+        return self.needed(some) | terms
 
     def let(self, some, spares):
         """The places of the blocks that are let next where these are made."""
@@ -72,10 +73,22 @@ def how_many_in(number):
     return many
 
 
-def steps_from(room, some, spares, behind):
-    """For each set that comes from this one the places let next; behind has for each the set ahead of which none is."""
-    steps = {}
+def can_come(room, some, spares):
+    """Whether all blocks can come to be made, one behind another, from where these are."""
+    seen = {}
     todo = [some]
+    while todo and room.whole() not in seen:
+        made = todo.pop()
+        if made not in seen:
+            seen[made] = True
+            todo.extend([made | 1 << place for place in room.let(made, spares)])
+    return room.whole() in seen
+
+
+def steps_of(room, spares, behind):
+    """For each set that comes the places let next, where for each place behind has the set that it waits for."""
+    steps = {}
+    todo = [0]
     while todo:
         made = todo.pop()
         if made not in steps:

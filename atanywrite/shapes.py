@@ -59,11 +59,11 @@ def is_name_set(thing):
     return all([is_name(name) for name in thing]) and ascends(thing)
 
 
-def is_number_set(thing, low, high):
-    """Whether thing is a set, maybe (), of numbers from low to high."""
+def is_number_set(thing, low, high=None):
+    """Whether thing is a set, maybe (), of numbers from low on, up to high unless that is None."""
     if not isinstance(thing, tuple) or not all([is_number(number) for number in thing]):
         return False
-    return ascends(thing) and all([low <= number <= high for number in thing])
+    return ascends(thing) and all([low <= number and (high is None or number <= high) for number in thing])
 
 
 def is_call(name, reads, known):

@@ -1,6 +1,6 @@
 """For each function of the interface its parameters and samples of arguments; those called thing keep their tuples."""
 
-from atanywrite import losses, marks, orders, rows, terms, texts
+from atanywrite import arranging, images, losses, marks, orders, plans, rows, slots, terms, texts
 from tests.common import CHANGE, FULL, ROW, SINGLE, STILL
 
 MOVE = ("h", ("a", "b"), "b")
@@ -171,8 +171,128 @@ ORDERS = {
     ),
 }
 
-SAMPLES = {**ROWS_AND_TEXTS, **TERMS, **LOSSES, **MARKS, **ORDERS}
+EXCHANGE = (("a", "b"), (("f", ("a", "b")), ("g", ("b",))))
+PLAN = (
+    ("a", "b", "x"),
+    ("a", "b"),
+    (("f", ("a", "b"), "x"), ("g", ("b",), "a"), ("copy", ("a",), "b"), ("copy", ("x",), "a")),
+    (1, 2, 3),
+)
+X = ("x",)
+NO_PLAN = PLAN[:3] + ((),)
+FULL_UP = (("a", "b"), (("f", ("a", "b")), ("g", ("a", "b"))))
+AB = ("a", "b")
+
+PLANS = {
+    plans.goal_of: (("change",), [(EXCHANGE,), (CHANGE,)]),
+    plans.stays: (("change",), [(EXCHANGE,), (CHANGE,)]),
+    plans.made_blocks: (("change",), [(EXCHANGE,), (CHANGE,)]),
+    plans.minds: (("change", "block"), [(EXCHANGE, "a"), (EXCHANGE, "x")]),
+    plans.is_saved_enough: (("change", "some"), [(EXCHANGE, AB), (EXCHANGE, ("a",)), (EXCHANGE, ())]),
+    plans.least_saved: (("change",), [(EXCHANGE,), (CHANGE,)]),
+    plans.plan_faults: (("change", "spares", "row"), [(EXCHANGE, X, PLAN), (EXCHANGE, X, NO_PLAN), (EXCHANGE, X, ROW)]),
+    plans.is_plan: (("change", "spares", "thing"), [(EXCHANGE, X, PLAN), (EXCHANGE, X, 1)]),
+    plans.order_of_plan: (("change", "spares", "row"), [(EXCHANGE, X, PLAN), (EXCHANGE, X, NO_PLAN)]),
+    plans.goes_by: (("change", "spares", "row", "order"), [(EXCHANGE, X, PLAN, AB), (EXCHANGE, X, NO_PLAN, AB)]),
+    plans.plan_by: (("change", "spares", "order"), [(EXCHANGE, X, AB), (FULL_UP, X, AB)]),
+    plans.can_do: (("change", "spares"), [(EXCHANGE, X), (FULL_UP, X)]),
+    plans.plan_for: (("change", "spares"), [(EXCHANGE, X), (FULL_UP, X)]),
+    plans.shortest_plan: (("change", "spares"), [(EXCHANGE, X), (FULL_UP, X)]),
+    plans.fewest_moves_of: (("change", "spares"), [(EXCHANGE, X), (FULL_UP, X)]),
+    plans.is_shortest: (("change", "spares", "thing"), [(EXCHANGE, X, PLAN), (EXCHANGE, X, 1)]),
+}
+
+LYING = ("b", "a", "")
+ARRANGING = {
+    arranging.cells_of: (("change", "spares"), [(EXCHANGE, X), (EXCHANGE, ("aa", "x"))]),
+    arranging.is_lying: (("change", "spares", "thing"), [(EXCHANGE, X, LYING), (EXCHANGE, X, 1)]),
+    arranging.rounds_in: (("change", "spares", "lying"), [(EXCHANGE, X, LYING), (EXCHANGE, X, ("", "a", "b"))]),
+    arranging.fewest_copies: (("change", "spares", "lying"), [(EXCHANGE, X, LYING), (EXCHANGE, X, ("", "a", "b"))]),
+    arranging.copies_for: (("change", "spares", "lying"), [(EXCHANGE, X, LYING), (EXCHANGE, X, ("", "a", "b"))]),
+    arranging.is_arranging: (
+        ("change", "spares", "lying", "thing"),
+        [(EXCHANGE, X, ("", "b", "a"), (("x", "a"),)), (EXCHANGE, X, LYING, ())],
+    ),
+    arranging.lying_after: (
+        ("change", "spares", "lying", "copying"),
+        [(EXCHANGE, X, LYING, (("a", "x"), ("b", "a"))), (EXCHANGE, X, LYING, (("a", "b"),))],
+    ),
+}
+
+OLD = (("a", "pq"), ("b", "rs"), ("c", "tu"))
+NEW = (("a", "xp"), ("b", "qr"), ("c", "st"))
+OTHER = (("a", "xp"), ("b", "qr"))
+MAKING = (("raw", "xp"), ("shift", "a", "b", 1), ("shift", "b", "c", 1))
+NO_MAKING = (("raw", "xp"), ("copy", "a"), ("copy", "b"))
+COPIES = (("a", "b"), (("copy", ("b",)), ("f", ("a", "b"))))
+
+IMAGES = {
+    images.is_image: (("thing",), [(OLD,), (1,)]),
+    images.text_of: (("image", "block"), [(OLD, "a"), (OLD, "z")]),
+    images.apart: (("image", "other"), [(OLD, NEW), (OLD, OTHER)]),
+    images.moved_on: (("image", "other"), [(OLD, NEW), (OLD, OTHER)]),
+    images.ways: (("image", "other", "block"), [(OLD, NEW, "b"), (OLD, OTHER, "b"), (OLD, OTHER, "z")]),
+    images.is_way: (("image", "other", "block", "thing"), [(OLD, NEW, "b", MAKING[1]), (OLD, NEW, "z", 1), (OLD, NEW, "b", 1)]),
+    images.text_by: (("image", "way"), [(OLD, MAKING[1]), (OLD, ("shift", "a", "a", 2)), (OLD, ("copy", "z"))]),
+    images.is_making: (("image", "other", "thing"), [(OLD, NEW, MAKING), (OLD, NEW, 1), (OLD, OTHER, 1)]),
+    images.image_by: (("image", "making"), [(OLD, MAKING), (OLD, MAKING[:2]), (OLD, (("copy", "z"),))]),
+    images.letters: (("making",), [(MAKING,), ((),)]),
+    images.least_making: (("image", "other"), [(OLD, NEW), (OLD, OTHER)]),
+    images.change_by: (("image", "other", "making"), [(OLD, NEW, MAKING), (OLD, NEW, NO_MAKING), (OLD, OTHER, (("copy", "z"),))]),
+    images.fits: (("image", "other", "making", "spares"), [(OLD, NEW, MAKING, 1), (OLD, NEW, NO_MAKING, 1)]),
+    images.lean_making: (("image", "other", "spares"), [(OLD, NEW, 1), (OLD, OTHER, 1)]),
+    images.letters_by_spares: (("image", "other"), [(OLD, NEW), (OLD, OTHER)]),
+    images.behind: (("one", "other"), [(COPIES, EXCHANGE), (COPIES, CHANGE)]),
+    images.reads_behind: (("one", "other"), [(COPIES, EXCHANGE), (COPIES, CHANGE)]),
+    images.made_at_once: (("one", "other"), [(COPIES, (AB, (("g", ("a",)), ("copy", ("b",))))), (COPIES, EXCHANGE)]),
+}
+
+DEVICE = ((5, 0), 0, -1, 0, 0)
+ERRAND = (("write", 1, 6), ("try", 1, 2), ("start",), ("sure",), ("floor",))
+SOON = ERRAND[:3] + (("floor",), ("sure",))
+STAND = (((5, 6), 0, 1, 2, 0), 2, 0)
+FAULTS = (6,)
+
+SLOTS = {
+    slots.is_device: (("thing",), [(DEVICE,), (1,)]),
+    slots.is_errand: (("device", "thing"), [(DEVICE, ERRAND), (DEVICE, 1)]),
+    slots.can_start: (("device", "slot"), [(DEVICE, 0), (DEVICE, 2)]),
+    slots.device_started: (("device",), [(DEVICE,), (STAND[0],)]),
+    slots.first_stand: (("errand", "device"), [(ERRAND, DEVICE), ((), STAND[0])]),
+    slots.stand_behind: (
+        ("errand", "faults", "stand", "event"),
+        [(ERRAND, (), STAND, "go"), (ERRAND, FAULTS, STAND, "cut"), (ERRAND, (5,), STAND, "go")],
+    ),
+    slots.stands_along: (
+        ("errand", "device", "faults", "events"),
+        [(ERRAND, DEVICE, (), ("go", "tear")), (ERRAND, DEVICE, (), ("go", "cut")), (ERRAND, DEVICE, FAULTS, ("tear", "go"))],
+    ),
+    slots.all_stands: (("errand", "device"), [(ERRAND, DEVICE), (SOON, DEVICE)]),
+    slots.fate: (("errand", "faults", "stand"), [(ERRAND, (), STAND), (ERRAND, FAULTS, STAND)]),
+    slots.fates: (("errand", "device", "faults"), [(ERRAND, DEVICE, FAULTS), (SOON, DEVICE, ())]),
+    slots.ends_with: (("errand", "device", "faults"), [(ERRAND, DEVICE, FAULTS), (SOON, DEVICE, ())]),
+    slots.is_safe: (("errand", "device"), [(ERRAND, DEVICE), (SOON, DEVICE)]),
+    slots.bad_acts: (("errand", "device"), [(ERRAND, DEVICE), (SOON, DEVICE)]),
+    slots.lost_events: (("errand", "device"), [(ERRAND, DEVICE), (SOON, DEVICE)]),
+    slots.stuck_run: (("errand", "device"), [(ERRAND, DEVICE), ((("write", 0, 3),), ((1, 2), 0, 1, 1, 0))]),
+    slots.is_stuck_run: (("errand", "device", "thing"), [(ERRAND, DEVICE, (FAULTS, ("go",))), (ERRAND, DEVICE, 1)]),
+    slots.keep: (("errand", "device"), [(ERRAND, DEVICE), (SOON, DEVICE)]),
+    slots.is_keep: (("errand", "device", "thing"), [((), DEVICE, ((DEVICE, 0, 0),)), (ERRAND, DEVICE, 1)]),
+    slots.fewest_cuts: (("errand", "device", "word"), [(ERRAND, DEVICE, "back"), (ERRAND, DEVICE, "x")]),
+    slots.left_versions: (("errand", "device"), [(ERRAND, DEVICE), (SOON, DEVICE)]),
+    slots.errand_for: (("device", "version"), [(DEVICE, 5), (DEVICE, 6), (STAND[0][:2] + (-1, 0, 9), 6)]),
+    slots.is_errand_for: (("device", "version", "thing"), [(DEVICE, 6, ERRAND[:4]), (DEVICE, 6, 1)]),
+}
+
+SAMPLES = {
+    **ROWS_AND_TEXTS, **TERMS, **LOSSES, **MARKS, **ORDERS, **PLANS, **ARRANGING, **IMAGES, **SLOTS,
+}
 # For each module how many functions the interface lists.
-LISTED = {rows: 26, texts: 7, terms: 30, losses: 22, marks: 22, orders: 28}
+LISTED = {
+    rows: 26, texts: 7, terms: 30, losses: 22, marks: 22, orders: 28, plans: 16, arranging: 7, images: 18, slots: 22,
+}
 # Of these several results are a list.
-LISTS = (losses.contents_along, marks.all_markings, orders.right_orders)
+LISTS = (
+    losses.contents_along, marks.all_markings, orders.right_orders, arranging.rounds_in, images.ways, slots.stands_along,
+    slots.all_stands,
+)

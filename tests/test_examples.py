@@ -2,7 +2,7 @@
 
 import unittest
 
-from atanywrite import errors, losses, marks, orders, rows, terms, texts
+from atanywrite import arranging, errors, images, losses, marks, orders, plans, rows, slots, terms, texts
 from atanywrite.errors import RowError
 
 TERMS = '''
@@ -84,9 +84,54 @@ ORDERS = '''
 >>> spares_for(change, ("a", "b", "c", "c"))
 raises Unfit()
 '''
+PLANS = '''
+>>> swap = (("a", "b"), (("f", ("a", "b")), ("g", ("b",))))
+>>> goal_of(swap), minds(swap, "a"), least_saved(swap), fewest_moves_of(swap, ("x",)), can_do(swap, ("x",))
+((('f', (('old', 'a'), ('old', 'b'))), ('g', (('old', 'b'),))), ('a', 'b'), ('a', 'b'), 4, True)
+>>> plan = (("a", "b", "x"), ("a", "b"), (("f", ("a", "b"), "x"), ("g", ("b",), "a"), ("copy", ("a",), "b"), ("copy", ("x",), "a")), (1, 2, 3))
+>>> is_plan(swap, ("x",), plan), goes_by(swap, ("x",), plan, ("a", "b")), order_of_plan(swap, ("x",), plan), plan_faults(swap, ("x",), plan[:3] + ((),))
+(True, True, ('a', 'b'), ('keeps',))
+>>> three = (("a", "b", "c"), (("f", ("b",)), ("g", ("c",)), ("copy", ("c",))))
+>>> stays(three), made_blocks(three), least_saved(three), fewest_moves_of(three, ("x",)), fewest_copies(three, ("x",), ("b", "a", "c", ""))
+(('c',), ('a', 'b'), (), 2, 3)
+>>> rounds_in(three, ("x",), ("b", "a", "c", "")), is_arranging(three, ("x",), ("b", "a", "c", ""), (("a", "x"), ("b", "a"), ("x", "b"))), copies_for(three, ("x",), ("", "a", "c", "b"))
+([('a', 'b')], True, (('b', 'a'), ('x', 'b')))
+>>> plan_by((("a", "b"), (("f", ("a", "b")), ("g", ("a", "b")))), ("x",), ("a", "b"))
+raises CanNot()
+'''
+IMAGES = '''
+>>> old = (("a", "pq"), ("b", "rs"), ("c", "tu"))
+>>> new, ring = (("a", "xp"), ("b", "qr"), ("c", "st")), (("a", "st"), ("b", "up"), ("c", "qr"))
+>>> moved_on(old, new), ways(old, new, "b"), least_making(old, new)
+(1, [('raw', 'qr'), ('shift', 'a', 'b', 1)], (('raw', 'xp'), ('shift', 'a', 'b', 1), ('shift', 'b', 'c', 1)))
+>>> change_by(old, new, least_making(old, new)), fits(old, new, least_making(old, new), 1)
+((('a', 'b', 'c'), (('rawa', ()), ('shifta', ('a', 'b')), ('shifta', ('b', 'c')))), True)
+>>> letters_by_spares(old, ring), lean_making(old, ring, 1)
+((2, 0, 0), (('raw', 'st'), ('shift', 'c', 'a', 1), ('shift', 'a', 'b', 1)))
+>>> one = (("a", "b"), (("copy", ("b",)), ("f", ("a", "b"))))
+>>> behind(one, (("a", "b"), (("g", ("a",)), ("g", ("b",))))), made_at_once(one, (("a", "b"), (("g", ("a",)), ("copy", ("a",)))))
+((('g', (('old', 'b'),)), ('g', (('f', (('old', 'a'), ('old', 'b'))),))), (('a', 'b'), (('g', ('b',)), ('copy', ('b',)))))
+>>> text_of(old, "z")
+raises NoBlock(name='z')
+'''
+SLOTS = '''
+>>> old = ((5, 0), 0, -1, 0, 0)
+>>> errand = (("write", 1, 6), ("try", 1, 2), ("start",), ("sure",), ("floor",))
+>>> stands_along(errand, old, (), ("go",) * 5)[3:]
+[(((5, 6), 0, 1, 1, 0), 3, 1), (((5, 6), 1, -1, 0, 0), 4, 1), (((5, 6), 1, -1, 0, 6), 5, 1)]
+>>> is_safe(errand, old), fates(errand, old, ()), fates(errand, old, (6,)), ends_with(errand, old, ()), fewest_cuts(errand, old, "back")
+(True, ('back', 'done'), ('back',), (('back', 5), ('done', 6)), 2)
+>>> soon = errand[:3] + (("floor",), ("sure",))
+>>> bad_acts(soon, old), lost_events(soon, old), left_versions(errand, old), left_versions(errand[:4], old)
+((3,), ('go', 'go', 'cut', 'go', 'go', 'cut'), (6,), (5, 6))
+>>> is_errand_for(old, 6, errand[:4]), is_errand_for(old, 6, errand), errand_for(old, 5)
+(True, False, ())
+'''
 # For each session how many answers it has.
-SESSIONS = [(TERMS, 6), (ROWS_AND_TEXTS, 5), (LOSSES, 7), (MARKS, 5), (ORDERS, 5)]
-MODULES = (errors, rows, texts, terms, losses, marks, orders)
+SESSIONS = [
+    (TERMS, 6), (ROWS_AND_TEXTS, 5), (LOSSES, 7), (MARKS, 5), (ORDERS, 5), (PLANS, 5), (IMAGES, 5), (SLOTS, 4),
+]
+MODULES = (errors, rows, texts, terms, losses, marks, orders, plans, arranging, images, slots)
 
 
 def told(error):

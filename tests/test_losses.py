@@ -98,12 +98,16 @@ class PlayTest(unittest.TestCase):
         self.assertEqual(refusal(losses.ends_by, SWAP, 3), no_number(3))
 
     def test_only_plays_that_begin_at_most_20(self):
-        row = (("a", "b"), ("a", "b"), (("f", ("a",), "a"),) * 6 + (("g", ("b",), "b"),), ())
-        # Two losses at the last move begin 21 moves, one of them a move ahead 20.
-        self.assertIn((6, 5), brute.short_plays(row, 2))
-        self.assertNotIn((6, 6), brute.short_plays(row, 2))
-        ends = {brute.end(row, play) for play in brute.short_plays(row, 2)}
-        self.assertEqual(losses.ends_by(row, 2), tuple(sorted(ends)))
+        cells = tuple("abcdefg")
+        for marks in ((), (2,), (3, 4)):
+            # Each loss shows in another cell at the end.
+            row = (cells, cells, tuple(("f", (cell,), cell) for cell in cells), marks)
+            short = brute.short_plays(row, 2)
+            self.assertEqual(losses.ends_by(row, 2), tuple(sorted({brute.end(row, play) for play in short})))
+        row = row[:3] + ((),)
+        short = brute.short_plays(row, 2)
+        self.assertEqual([(6, 5) in short, (6, 6) in short], [True, False])
+        self.assertIn(brute.end(row, (6, 5)), losses.ends_by(row, 2))
         self.assertNotIn(brute.end(row, (6, 6)), losses.ends_by(row, 2))
         long = (("a",), ("a",), (("f", ("a",), "a"),) * 21, ())
         self.assertEqual(losses.ends_by(long, 1), ())

@@ -136,7 +136,7 @@ class MarkingTest(unittest.TestCase):
         self.assertEqual((marks.all_markings(OWN), marks.how_many_markings(OWN)), ([], 0))
         self.assertEqual((marks.all_markings(STILL), marks.how_many_markings(STILL)), ([()], 1))
         self.assertEqual((marks.fewest_marks(STILL), marks.fewest_marking(STILL), marks.from_end(STILL)), (0, (), ()))
-        wrong = [(0,), (5,), (1, 1), (2, 1), (True,), (1, True), ("1",), [1], [1, 2], (1, [2]), nested(30), 1, (1, 5)]
+        wrong = [(0,), (0, 1), (5,), (1, 1), (2, 1), (True,), (1, True), ("1",), [1], [1, 2], (1, [2]), nested(30), 1, (1, 5)]
         for thing in STRANGE + wrong + with_strange_parts((1, 2)):
             self.assertEqual(marks.is_marking(TALE, thing), thing == (1, 2, 3, 4))
         self.assertTrue(marks.is_marking(TALE, (1,)))

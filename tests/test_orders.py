@@ -225,10 +225,12 @@ class FenceTest(unittest.TestCase):
     def test_no_fences(self):
         fence = ((), ("p",), ("q",), ("r",))
         self.assertTrue(orders.is_fence(RING, 1, fence))
-        self.assertTrue(orders.is_fence(RING, 1, ((), ("p",), ("p", "q"), ("q",), ("r",))))
+        more = ((), ("p",), ("p", "q"), ("q",), ("r",))
+        self.assertTrue(orders.is_fence(RING, 1, more))
         wrong = [fence[::-1], fence[1:], fence[:3], (*fence, ("r",)), (*fence, ("x",)), ((), ("p",), ("q",), ("q", "p"), ("r",)),
                  ((), ("p",), ("p", "p"), ("q",), ("r",)), ((), "p", "q", "r"), ((),), nested(30), ((), ("p",), ("p", "q", "r"), ("q",), ("r",))]
-        for thing in STRANGE + wrong + with_strange_parts(fence) + list_at_each_depth(fence):
+        bent = [with_strange_parts(one) + list_at_each_depth(one) for one in (fence, more)]
+        for thing in STRANGE + wrong + bent[0] + bent[1]:
             self.assertFalse(orders.is_fence(RING, 1, thing), thing)
         self.assertFalse(orders.is_fence(RING, 2, fence))
 
