@@ -23,12 +23,18 @@ def is_play(row, thing):
     """Whether thing is a PLAY, however long."""
     if not isinstance(thing, tuple) or not all([is_number(number) for number in thing]):
         return False
+    on = _goes_on(row)
     spot = 0
     for number in thing:
-        if not spot <= number < len(row[2]):
+        if not spot <= number < len(on):
             return False
-        spot = goes_on_from(row, number)
+        spot = on[number]
     return True
+
+
+def _goes_on(row):
+    """For each move the spot from which the device goes on if power is lost at it."""
+    return [goes_on_from(row, number) for number in range(len(row[2]))]
 
 
 def begun(row, play):
@@ -119,7 +125,7 @@ def ends_by(row, number):
 def _plays(row, losses):
     """All PLAYS of at most so many losses that begin at most 20 moves, those of fewer losses first."""
     many = len(row[2])
-    on = [goes_on_from(row, number) for number in range(many)]
+    on = _goes_on(row)
     found = [()] if many <= MOST_BEGUN else []
     level = [((), 0, many)]
     for _ in range(losses):

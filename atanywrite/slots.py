@@ -181,12 +181,13 @@ def is_stuck_run(errand, device, thing):
     faults, events = thing
     if not is_number_set(faults, 1) or _sure_version(device) in faults or not isinstance(events, tuple):
         return False
-    stand = first_stand(errand, device)
+    told = frozen(errand)
+    stand = first_stand(told, device)
     for event in events:
-        if event not in events_at(errand, faults, stand):
+        if event not in events_at(told, faults, stand):
             return False
-        stand = behind_event(frozen(errand), stand, event)
-    return fate(errand, faults, stand) == STUCK
+        stand = behind_event(told, stand, event)
+    return fate(told, faults, stand) == STUCK
 
 
 def keep(errand, device):

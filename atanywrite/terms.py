@@ -4,7 +4,7 @@ from atanywrite.checks import need_cell, need_number
 from atanywrite.errors import Unfit
 from atanywrite.pools import Pool, held_at_first, held_behind
 from atanywrite.rows import swapped
-from atanywrite.shapes import COPY, NO_FUNCTIONS, as_set, frozen, is_function, is_name, is_number
+from atanywrite.shapes import COPY, NO_FUNCTIONS, as_set, ascends, frozen, is_function, is_name, is_number
 
 
 def contents_at(row, spot):
@@ -116,7 +116,7 @@ def is_why(row, number, thing):
     need_number(number, 0, len(row[2]) - 1)
     if not isinstance(thing, tuple) or thing == () or not all([is_number(part) for part in thing]):
         return False
-    if thing[0] != number or not all([0 <= part < len(row[2]) for part in thing]):
+    if thing[0] != number or not ascends(thing) or thing[-1] >= len(row[2]):
         return False
     if not all([later in writes_for(row, part) for part, later in zip(thing, thing[1:])]):
         return False

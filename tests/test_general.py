@@ -6,7 +6,7 @@ import unittest
 
 from atanywrite import rows, texts
 from atanywrite.errors import RowError
-from tests.common import ROW, has_list, listed
+from tests.common import ROW, has_list, list_at_each_depth, listed
 from tests.samples import LISTED, LISTS, SAMPLES
 
 
@@ -55,19 +55,12 @@ class GeneralTest(unittest.TestCase):
                 self.assertEqual(answer(function, **dict(zip(names, with_lists(names, values)))), told)
 
     def test_a_list_at_any_one_depth(self):
-        mixed = [
-            [*ROW],
-            ([*ROW[0]], *ROW[1:]),
-            (ROW[0], [*ROW[1]], *ROW[2:]),
-            (*ROW[:2], [*ROW[2]], ROW[3]),
-            (*ROW[:2], (["copy", ("a",), "s"], ("f", ["a", "b"], "a"), ROW[2][2]), ROW[3]),
-            (*ROW[:3], [*ROW[3]]),
-        ]
         for function, names, values in calls():
-            for row in mixed:
-                others = [row if worth == ROW and name != "thing" else worth for name, worth in zip(names, values)]
-                with self.subTest(function.__name__, values=others):
-                    self.assertEqual(answer(function, *others), answer(function, *values))
+            told = answer(function, *values)
+            for at, worth in enumerate(values):
+                for bent in list_at_each_depth(worth) if names[at] != "thing" else []:
+                    with self.subTest(function.__name__, values=values, bent=bent):
+                        self.assertEqual(answer(function, *values[:at], bent, *values[at + 1:]), told)
 
     def test_only_several_results_are_a_list(self):
         for function, names, values in calls():

@@ -338,13 +338,16 @@ class PaperTest(unittest.TestCase):
             self.assertFalse(slots.is_keep(errand, device, tuple(sorted(right - {one}))))
         thing = tuple(sorted(right))
         self.assertTrue(slots.is_keep(errand, device, thing))
-        wrong = [thing[::-1], (*thing, thing[-1]), thing[:1] + thing, list(thing), nested(30), (*thing, 1), (*thing, (device, 0))]
-        wrong += [(*thing, (device, 3, 0)), (*thing, (device, -2, 0)), (*thing, (((9, 0), 0, -1, 0, 0), 0, 2))]
-        wrong += [(*thing, (((9, 0), 0, -1, 1, 0), 0, 0)), (*thing, (((9, 0, 0), 0, -1, 0, 0), 2, 0))]
+        wrong = [thing[::-1], (*thing, thing[-1]), thing[:1] + thing, list(thing), nested(30), (*thing, 1)]
+        wrong += [(*thing, (device, 0))]
+        far = ((9, 0), 0, -1, 0, 9)
+        # Behind all others, so in order; cut leads from each to itself.
+        wrong += [(*thing, (far, 3, 0)), (*thing, (far, -2, 0)), (*thing, (far, 2, 2)), (*thing, (far, 2, -1))]
+        wrong += [(*thing, (far, 2, -2)), (*thing, (((9, 0), 0, -1, 1, 9), 2, 0))]
+        wrong += [(*thing, (((9, 0, 0), 0, -1, 0, 9), 2, 0))]
         for other in STRANGE + wrong + with_strange_parts(thing) + list_at_each_depth(thing):
             self.assertFalse(slots.is_keep(errand, device, other), other)
-        more = (*thing, (((9, 0), 0, -1, 0, 9), 2, 0))
-        self.assertTrue(slots.is_keep(errand, device, more))
+        self.assertTrue(slots.is_keep(errand, device, (*thing, (far, 2, 0))))
 
     def test_no_truth_for_numbers(self):
         device = ((1, 0), 0, -1, 0, 0)
@@ -409,6 +412,18 @@ class ErrandTest(unittest.TestCase):
             self.assertEqual(slots.is_errand_for(device, 6, errand), errand in right)
         for errand in right:
             self.assertTrue(slots.is_errand_for(device, 6, errand))
+
+    def test_a_version_that_is_there(self):
+        device = ((1, 2), 0, -1, 0, 1)
+        acts = [("write", slot, 2) for slot in (0, 1)] + [("try", 0, 1), ("try", 1, 1), ("try", 1, 2)]
+        acts += [("start",), ("sure",), ("floor",)]
+        right = [errand for errand in itertools.product(acts, repeat=3) if brings(errand, device, 2)]
+        self.assertIn(slots.errand_for(device, 2), right)
+        for errand in itertools.product(acts, repeat=3):
+            self.assertEqual(slots.is_errand_for(device, 2, errand), errand in right)
+        three = [(((5, 0, 2), 0, -1, 0, 0), 2), (((2, 3, 2), 1, -1, 0, 2), 2), (((9, 8), 1, -1, 0, 0), 9)]
+        for device, wanted in three:
+            self.assertEqual(len(slots.errand_for(device, wanted)), 3)
 
     def test_no_errands_for(self):
         right = ERRAND[:4]
