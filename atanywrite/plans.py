@@ -30,34 +30,40 @@ def made_blocks(change):
 def minds(change, block):
     """The set of the blocks that this one minds."""
     need_blocks(change[0], [block])
+    return _minded(change)[block]
+
+
+def _minded(change):
+    """For each block the set of those that it minds."""
     staying = stays(change)
-    if block not in made_blocks(change):
-        return ()
-    reads = change[1][list(change[0]).index(block)][1]
-    return as_set([read for read in reads if read not in staying])
+    found = {}
+    for block, (name, reads) in zip(change[0], change[1]):
+        found[block] = () if name == COPY else as_set([read for read in reads if read not in staying])
+    return found
 
 
 def is_saved_enough(change, some):
     """Whether without these blocks none of which each minds the next one, the last one the first, are left."""
-    left = {block: minds(change, block) for block in change[0] if block not in some}
-    # What minds none that is left is in no such row; when these are gone again and again, the rows are left.
-    free = _minding_none(left)
-    while free:
-        left = {block: left[block] for block in list(left) if block not in free}
-        free = _minding_none(left)
-    return left == {}
+    return _is_without_rounds(_minded(change), some)
 
 
-def _minding_none(left):
-    return [block for block in list(left) if not any([other in left for other in left[block]])]
+def _is_without_rounds(minded, some):
+    left = [block for block in list(minded) if block not in some]
+    many = len(left) + 1
+    # What minds none that is left is in no such row: it goes, again and again, till the rows alone are left.
+    while len(left) < many:
+        many = len(left)
+        left = [block for block in left if any([other in left for other in minded[block]])]
+    return left == []
 
 
 def least_saved(change):
     """Of the sets that are saved enough with the fewest blocks the least."""
+    minded = _minded(change)
     level = [()]
     while True:
         for some in level:
-            if is_saved_enough(change, some):
+            if _is_without_rounds(minded, some):
                 return some
         level = [(*some, block) for some in level for block in change[0] if some == () or block > some[-1]]
 

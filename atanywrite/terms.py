@@ -59,8 +59,19 @@ def sources(row, number):
 def writes_for(row, number):
     """The set of the moves for which this one writes."""
     need_number(number, 0, len(row[2]) - 1)
-    later = range(number + 1, len(row[2]))
-    return tuple([reader for reader in later if number in sources(row, reader)])
+    return tuple(_written_for(row)[number])
+
+
+def _written_for(row):
+    """For each move the ascending list of the moves for which it writes."""
+    found = [[] for _ in row[2]]
+    last = {}
+    for number, (_, reads, cell) in enumerate(row[2]):
+        for read in reads:
+            if read in last:
+                found[last[read]].append(number)
+        last[cell] = number
+    return found
 
 
 def move_counts(row, number):
@@ -105,9 +116,10 @@ def why(row, number):
     counts = counting(row)
     if number not in counts:
         return None
+    written_for = _written_for(row)
     path = [number]
     while not _is_held_at_end(row, path[-1]):
-        path.append(min([reader for reader in writes_for(row, path[-1]) if reader in counts]))
+        path.append(min([reader for reader in written_for[path[-1]] if reader in counts]))
     return tuple(path)
 
 
@@ -118,7 +130,8 @@ def is_why(row, number, thing):
         return False
     if thing[0] != number or not ascends(thing) or thing[-1] >= len(row[2]):
         return False
-    if not all([later in writes_for(row, part) for part, later in zip(thing, thing[1:])]):
+    written_for = _written_for(row)
+    if not all([later in written_for[part] for part, later in zip(thing, thing[1:])]):
         return False
     return _is_held_at_end(row, thing[-1])
 
