@@ -2,7 +2,7 @@
 
 from atanywrite.checks import need_blocks, need_new, need_number, need_spares
 from atanywrite.errors import Unfit
-from atanywrite.rooms import Room, can_come, how_many_in, order_with, recipe_term, steps_of, ways_on
+from atanywrite.rooms import Room, can_come, order_with, recipe_term, steps_of, ways_on
 from atanywrite.rows import is_change, is_order
 from atanywrite.shapes import as_set, ascends, frozen
 
@@ -92,7 +92,7 @@ def _needs(room, order):
     found = []
     for at, block in enumerate(order):
         place = list(room.blocks).index(block)
-        found.append(how_many_in(room.held(room.number_of(order[:at]), place)))
+        found.append(room.need(room.number_of(order[:at]), place))
     return found
 
 
@@ -155,9 +155,11 @@ def how_many_right(change, spares):
 
 def nth_right(change, spares, number):
     """The ORDER with this number among those that are right with so many SPARES."""
-    need_number(number, 0, how_many_right(change, spares) - 1)
+    need_spares(spares)
     room = Room(frozen(change))
-    return order_with(room, _steps(room, spares), number)
+    steps = _steps(room, spares)
+    need_number(number, 0, ways_on(room, steps)[0] - 1)
+    return order_with(room, steps, number)
 
 
 def made_sets(change, spares):

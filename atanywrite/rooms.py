@@ -1,5 +1,6 @@
 """How much is held while the blocks of a CHANGE are made; sets of blocks and of TERMS are told by numbers."""
 
+from atanywrite.errors import NoNumber
 from atanywrite.shapes import COPY
 
 
@@ -41,19 +42,20 @@ class Room:
         """The set of all blocks."""
         return (1 << self.many) - 1
 
-    def needed(self, some):
-        """The old blocks that the recipes of all but these read."""
-        return _together([self.read_bits[place] for place in self.places_in(self.whole() - some)])
+    def kept(self, some):
+        """The TERMS that are held where these are made and another block is next, but for its own."""
+        needed = [self.read_bits[place] for place in self.places_in(self.whole() - some)]
+        return _together(needed + [self.term_bits[place] for place in self.places_in(some)])
 
-    def held(self, some, place):
-        """The TERMS that are held where these are made and the block at the place is next."""
-        terms = _together([self.term_bits[other] for other in [place, *self.places_in(some)]])
-        return self.needed(some) | terms
+    def need(self, some, place):
+        """How many TERMS are held where these are made and the block at the place is next."""
+        return how_many_in(self.kept(some) | self.term_bits[place])
 
     def let(self, some, spares):
         """The places of the blocks that are let next where these are made."""
+        kept = self.kept(some)
         left = self.places_in(self.whole() - some)
-        return [place for place in left if how_many_in(self.held(some, place)) <= self.many + spares]
+        return [place for place in left if how_many_in(kept | self.term_bits[place]) <= self.many + spares]
 
 
 def _together(sets):
@@ -116,11 +118,18 @@ def order_with(room, steps, number):
     made = 0
     left = number
     while made != room.whole():
-        for place in steps[made]:
-            many = ways[made | 1 << place]
-            if left < many:
-                order.append(room.blocks[place])
-                made = made | 1 << place
-                break
-            left -= many
+        place, left = _step_with(ways, made, steps[made], left)
+        order.append(room.blocks[place])
+        made = made | 1 << place
     return tuple(order)
+
+
+def _step_with(ways, made, places, number):
+    """The pair of the place with which the way with this number goes on, and its number among those that do so."""
+    left = number
+    for place in places:
+        many = ways[made | 1 << place]
+        if left < many:
+            return (place, left)
+        left -= many
+    raise NoNumber(number)

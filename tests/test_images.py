@@ -127,6 +127,7 @@ class ImageTest(unittest.TestCase):
 
     def test_unfit(self):
         functions = (images.apart, images.moved_on, images.least_making, images.letters_by_spares)
+        far = tuple((name, text) for name, (_, text) in zip("xyz", OLD))
         for other in (LONG, OTHERS, FEWER, FEWER + (("c", "tu"), ("d", "vw"))):
             for one, two in ((OLD, other), (other, OLD)):
                 for function in functions:
@@ -142,6 +143,10 @@ class ImageTest(unittest.TestCase):
                 self.assertEqual(refusal(images.fits, one, two, (("copy", "a"),) * 3, 1), UNFIT)
                 self.assertEqual(refusal(images.change_by, one, two, (("copy", "z"),) * 3), no_block("z"))
                 self.assertEqual(refusal(images.fits, one, two, (("copy", "z"),), 1), no_block("z"))
+        for function in functions:
+            self.assertEqual(refusal(function, OLD, far), UNFIT)
+        self.assertEqual(refusal(images.lean_making, OLD, far, 1), UNFIT)
+        self.assertEqual(refusal(images.is_making, OLD, far, ()), UNFIT)
         # A block of the other IMAGE alone is none.
         self.assertEqual(refusal(images.ways, OLD, OTHERS, "d"), no_block("d"))
         self.assertEqual(refusal(images.ways, OLD, OTHERS, "c"), UNFIT)
@@ -209,6 +214,15 @@ class MakingTest(unittest.TestCase):
             self.assertEqual(refusal(images.image_by, OLD, short), UNFIT)
             self.assertEqual(refusal(images.image_by, OLD, (*short, ("copy", "z"))), no_block("z"))
             self.assertEqual(refusal(images.change_by, OLD, NEW, (*short, ("shift", "a", "y", 1))), no_block("y"))
+
+    def test_what_is_no_making_at_all(self):
+        way = ("copy", "a")
+        for wrong in (1, "copy", (), ("copy",), ("copy", "z", "y"), ("swap", "z"), ("shift", "z", "y"), ("copy", None),
+                      ("raw", ("z",)), ("shift", "z", "a", "b"), None, True, ("copy", ("z",))):
+            for making in ((wrong,) * 3, (way, way, wrong), (wrong, way, way)):
+                self.assertEqual(refusal(images.change_by, OLD, NEW, making), UNFIT)
+                self.assertEqual(refusal(images.fits, OLD, NEW, making, 1), UNFIT)
+            self.assertEqual(refusal(images.change_by, OLD, NEW, (wrong, ("copy", "z"), way)), no_block("z"))
 
     def test_image_by(self):
         made = images.image_by(OLD, (("copy", "c"), ("shift", "a", "a", 1), ("raw", "zz")))
