@@ -4,6 +4,7 @@ import itertools
 import unittest
 
 from atanywrite import losses, rows
+from atanywrite.terms import term_losses
 from tests import brute
 from tests.common import FULL, ROW, SINGLE, STILL, STRANGE, list_at_each_depth, nested, no_cell, no_number, refusal
 from tests.common import with_strange_parts
@@ -225,6 +226,15 @@ class DifferTest(unittest.TestCase):
                     along = brute.run(row, play)[1]
                     at = 0 if spot == 0 else first_time(row, play, spot)
                     found |= {cell for cell in row[0] if along[at][cell] != right[spot][cell]}
+                self.assertEqual(losses.can_differ(row, spot), tuple(sorted(found)))
+
+    def test_what_differs_has_something_spoilt_in_it(self):
+        for row in some_rows():
+            for spot in brute.marked(row)[1:]:
+                found = set()
+                for play in brute.plays(row, 1):
+                    held = brute.run(row, play)[1][first_time(row, play, spot)]
+                    found |= {cell for cell in row[0] if term_losses(held[cell])}
                 self.assertEqual(losses.can_differ(row, spot), tuple(sorted(found)))
 
     def test_no_marks(self):

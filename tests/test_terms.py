@@ -192,6 +192,12 @@ class SwapTest(unittest.TestCase):
             if row[2]:
                 self.assertEqual(refusal(terms.swap_free, row, len(row[2]) - 1), UNFIT)
 
+    def test_neighbours_apart(self):
+        for row in many_rows():
+            for number, (one, two) in enumerate(zip(row[2], row[2][1:])):
+                if one[2] != two[2] and one[2] not in two[1] and two[2] not in one[1]:
+                    self.assertIn(number, terms.free_swaps(row))
+
     def test_free_by_what_cells_hold(self):
         moves = (("copy", ("a",), "b"), ("copy", ("a",), "c"), ("copy", ("b",), "c"), ("f", ("c",), "b"), ("f", ("a",), "b"))
         row = (("a", "b", "c"), ("b",), moves, (3,))
