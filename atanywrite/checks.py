@@ -1,6 +1,6 @@
 """Checks of arguments that raise the errors which the document states for them."""
 
-from atanywrite.errors import Known, NoBlock, NoCell, NoNumber
+from atanywrite.errors import Known, NoBlock, NoCell, NoClass, NoDevice, NoNumber
 
 
 def need_cell(cells, name):
@@ -13,6 +13,20 @@ def need_blocks(blocks, names):
     for name in names:
         if name not in blocks:
             raise NoBlock(name)
+
+
+def need_classes(classes, names):
+    """Each of these names has to be one of the classes."""
+    for name in names:
+        if name not in classes:
+            raise NoClass(name)
+
+
+def need_devices(devices, names):
+    """Each of these names has to be one of the devices."""
+    for name in names:
+        if name not in devices:
+            raise NoDevice(name)
 
 
 def need_new(names, name):

@@ -2,7 +2,8 @@
 
 from atanywrite.checks import need_cell, need_number
 from atanywrite.errors import NoNumber
-from atanywrite.pools import Pool, held_at_first, number_by
+from atanywrite.plays import end_numbers, held_behind_play, left_by, marks_below, steps_of_play
+from atanywrite.pools import Pool, held_at_first
 from atanywrite.rows import spots, stretches
 from atanywrite.shapes import as_set, frozen, is_number, is_same
 from atanywrite.spans import hazards_in
@@ -16,42 +17,25 @@ GREATEST = 10 ** 9
 def goes_on_from(row, number):
     """The spot from which the device goes on if power is lost at this move."""
     need_number(number, 0, len(row[2]) - 1)
-    return max([spot for spot in spots(row) if spot <= number])
+    return marks_below(row)[number]
 
 
 def is_play(row, thing):
     """Whether thing is a PLAY, however long."""
     if not isinstance(thing, tuple) or not all([is_number(number) for number in thing]):
         return False
-    on = _goes_on(row)
+    below = marks_below(row)
     spot = 0
     for number in thing:
-        if not spot <= number < len(on):
+        if not spot <= number < len(below):
             return False
-        spot = on[number]
+        spot = below[number]
     return True
-
-
-def _goes_on(row):
-    """For each move the spot from which the device goes on if power is lost at it."""
-    return [goes_on_from(row, number) for number in range(len(row[2]))]
 
 
 def begun(row, play):
     """The tuple of the moves begun in the PLAY."""
-    return tuple([number for number, loss in _steps(row, play)])
-
-
-def _steps(row, play):
-    """The moves begun in the PLAY, each with the place of the loss at it, None if it is done."""
-    found = []
-    spot = 0
-    for place, number in enumerate(play):
-        found.extend([(done, None) for done in range(spot, number)])
-        found.append((number, place))
-        spot = goes_on_from(row, number)
-    found.extend([(done, None) for done in range(spot, len(row[2]))])
-    return found
+    return tuple([number for number, loss in steps_of_play(row, play)])
 
 
 def play_from(row, numbers):
@@ -85,30 +69,16 @@ def contents_along(row, play):
     pool = Pool()
     held = held_at_first(pool, cells)
     found = [pool.terms([held[cell] for cell in cells])]
-    for number, loss in _steps(row, play):
-        held[moves[number][2]] = _left_by(pool, held, moves[number], loss)
+    for number, loss in steps_of_play(row, play):
+        held[moves[number][2]] = left_by(pool, held, moves[number], loss)
         found.append(pool.terms([held[cell] for cell in cells]))
     return found
-
-
-def _left_by(pool, held, move, loss):
-    """The number of the TERM that the move's cell holds behind it; loss is None if it is done."""
-    return number_by(pool, held, move) if loss is None else pool.spoilt(loss)
-
-
-def _held_behind_play(pool, row, play):
-    """For each cell the number of the TERM that it holds at the end of the PLAY."""
-    held = held_at_first(pool, row[0])
-    for number, loss in _steps(row, play):
-        held[row[2][number][2]] = _left_by(pool, held, row[2][number], loss)
-    return held
 
 
 def end_of(row, play):
     """The END of the PLAY."""
     pool = Pool()
-    held = _held_behind_play(pool, row, play)
-    return pool.terms([held[cell] for cell in row[1]])
+    return pool.terms(end_numbers(pool, row, play))
 
 
 def ends_by(row, number):
@@ -117,15 +87,14 @@ def ends_by(row, number):
     pool = Pool()
     found = {}
     for play in _plays(row, number):
-        held = _held_behind_play(pool, row, play)
-        found[tuple([held[cell] for cell in row[1]])] = True
+        found[tuple(end_numbers(pool, row, play))] = True
     return tuple(sorted([pool.terms(numbers) for numbers in list(found)]))
 
 
 def _plays(row, losses):
     """All PLAYS of at most so many losses that begin at most 20 moves, those of fewer losses first."""
     many = len(row[2])
-    on = _goes_on(row)
+    below = marks_below(row)
     found = [()] if many <= MOST_BEGUN else []
     level = [((), 0, many)]
     for _ in range(losses):
@@ -133,9 +102,9 @@ def _plays(row, losses):
         for play, spot, so_far in level:
             for number in range(spot, many):
                 # What lies from the mark to the loss is begun once more.
-                together = so_far + number - on[number] + 1
+                together = so_far + number - below[number] + 1
                 if together <= MOST_BEGUN:
-                    longer.append(((*play, number), on[number], together))
+                    longer.append(((*play, number), below[number], together))
         found.extend([play for play, spot, so_far in longer])
         level = longer
     return found
@@ -175,8 +144,8 @@ def _unlike_wanted(pool, row, number):
 
 def _unlike_cells(pool, row, play):
     """The cells that hold another TERM at the end of the PLAY than in ()."""
-    right = _held_behind_play(pool, row, ())
-    held = _held_behind_play(pool, row, play)
+    right = held_behind_play(pool, row, ())
+    held = held_behind_play(pool, row, play)
     return [cell for cell in row[0] if held[cell] != right[cell]]
 
 

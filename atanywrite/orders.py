@@ -4,7 +4,7 @@ from atanywrite.checks import need_blocks, need_new, need_number, need_spares
 from atanywrite.errors import Unfit
 from atanywrite.rooms import Room, can_come, order_with, recipe_term, steps_of, ways_on
 from atanywrite.rows import is_change, is_order
-from atanywrite.shapes import as_set, ascends, frozen
+from atanywrite.shapes import as_set, ascends, frozen, is_set_of
 
 
 def reads_of(change, block):
@@ -191,7 +191,7 @@ def is_fence(change, spares, thing):
     """Whether thing is a FENCE."""
     need_spares(spares)
     blocks = frozen(change[0])
-    if not isinstance(thing, tuple) or not all([_is_set_of(blocks, some) for some in thing]):
+    if not isinstance(thing, tuple) or not all([is_set_of(blocks, some) for some in thing]):
         return False
     if not ascends(thing) or () not in thing or blocks in thing:
         return False
@@ -200,13 +200,6 @@ def is_fence(change, spares, thing):
             if as_set([*some, block]) not in thing:
                 return False
     return True
-
-
-def _is_set_of(blocks, thing):
-    """Whether thing is a set of some of these blocks, maybe ()."""
-    if not isinstance(thing, tuple) or not all([isinstance(block, str) for block in thing]):
-        return False
-    return ascends(thing) and all([block in blocks for block in thing])
 
 
 def turned(change, order, number):

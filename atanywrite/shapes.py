@@ -66,6 +66,13 @@ def is_number_set(thing, low, high=None):
     return ascends(thing) and all([low <= number and (high is None or number <= high) for number in thing])
 
 
+def is_set_of(names, thing):
+    """Whether thing is a set, maybe (), of some of these names."""
+    if not isinstance(thing, tuple) or not all([isinstance(name, str) and name in names for name in thing]):
+        return False
+    return ascends(thing)
+
+
 def is_call(name, reads, known):
     """Whether a function called name may read these; known has what can be read as its keys."""
     if not is_function(name) or not isinstance(reads, tuple):

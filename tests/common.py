@@ -92,6 +92,18 @@ def no_cell(name):
     return ("NoCell", {"name": name})
 
 
+def no_class(name):
+    return ("NoClass", {"name": name})
+
+
+def no_device(name):
+    return ("NoDevice", {"name": name})
+
+
+def no_row(name):
+    return ("NoRow", {"name": name})
+
+
 def known(name):
     return ("Known", {"name": name})
 
@@ -101,3 +113,5 @@ def bad_text(piece):
 
 
 UNFIT = ("Unfit", {})
+CAN_NOT = ("CanNot", {})
+NOTHING_DONE = ("NothingDone", {})

@@ -2,6 +2,7 @@
 
 from atanywrite import arranging, images, losses, marks, orders, plans, rows, slots, terms, texts
 from tests.common import CHANGE, FULL, ROW, SINGLE, STILL
+from tests.samples_fleets import LISTED_OF_FLEETS, SAMPLES_OF_FLEETS
 
 MOVE = ("h", ("a", "b"), "b")
 SMALL = (("a",), ("a",), (("f", (), "a"), ("g", ("a",), "a")), (1,))
@@ -286,10 +287,12 @@ SLOTS = {
 
 SAMPLES = {
     **ROWS_AND_TEXTS, **TERMS, **LOSSES, **MARKS, **ORDERS, **PLANS, **ARRANGING, **IMAGES, **SLOTS,
+    **SAMPLES_OF_FLEETS,
 }
 # For each module how many functions the interface lists.
 LISTED = {
     rows: 26, texts: 7, terms: 30, losses: 22, marks: 22, orders: 28, plans: 16, arranging: 7, images: 18, slots: 22,
+    **LISTED_OF_FLEETS,
 }
 # Of these several results are a list.
 LISTS = (

@@ -2,7 +2,8 @@
 
 import unittest
 
-from atanywrite import arranging, errors, images, losses, marks, orders, plans, rows, slots, terms, texts
+from atanywrite import arranging, errors, fleets, images, losses, marks, orders, paces, plans, rollouts, rows, slots
+from atanywrite import terms, texts, watch
 from atanywrite.errors import RowError
 
 TERMS = '''
@@ -127,11 +128,53 @@ SLOTS = '''
 >>> is_errand_for(old, 6, errand[:4]), is_errand_for(old, 6, errand), errand_for(old, 5)
 (True, False, ())
 '''
+ROLLOUTS = '''
+>>> classes = (("a", 1), ("b", 1), ("c", 5), ("d", 5))
+>>> quick = ((0, "c", 1), (0, "d", 1), (10, "a", 1), (10, "b", 1), (10, "c", 4), (10, "d", 4))
+>>> is_whole(classes, quick), begin_counts(quick, 10), worst_harm(quick, 10), soonest_end(classes, 10, 2), is_quickest(classes, 10, 2, quick), least_most(classes, 10, 10)
+(True, ((0, 2), (10, 2)), 2, 10, True, 2)
+>>> stop_of(quick, 10, ("c",)), done_by(quick, 10, ("c",)), harm(quick, 10, ("a", "c")), harmed_of(quick, 10, ("a", "b")), well_at(quick, 10, 10)
+(10, ((0, 'c', 1), (0, 'd', 1)), 1, (('a', 1), ('b', 1)), ('c', 'd'))
+>>> rash = ((0, "c", 3), (4, "a", 1))
+>>> begin_counts(rash, 10), worst_bad(rash, 10), is_over(rash, 10, 3, (0, ("a", "c"))), tamed(rash, 10, 3), may_start(classes, rash, 4, 3, 4, "c")
+(((0, 4), (4, 1)), ('a', 'c'), True, ((0, 'c', 3),), 2)
+>>> starts_as_one(rash, "c", "a"), soonest_end(classes, 10, 1), soonest_end(classes, 10, 0), begin_of(rash, "a")
+(((0, 'c', 3), (4, 'c', 1)), 30, None, 4)
+>>> begin_of(rash, "b")
+raises NoClass(name='b')
+'''
+FLEETS = '''
+>>> fleet = (("ann", "old", (0,)), ("bob", "old", (2, 5)), ("cy", "new", (3,)), ("dan", "new", (4, 6)))
+>>> most_harmed(fleet, 3), fleet_counts(fleet, 3), greatest_delay(fleet, 2), greatest_delay(fleet, 4), surely_begun(fleet, 4), maybe_begun(fleet, 4)
+(2, ((0, 2), (2, 0), (3, 2), (4, 0), (5, 0), (6, 0)), 3, None, ('ann', 'cy'), ('ann', 'bob', 'cy', 'dan'))
+>>> harmed(fleet, (0, 2, 3, 4), (3, 3, 3, 3), ("new", "old")), harmed(fleet, (0, 2, 3, 4), (1, 9, 9, 9), ("old",)), is_case_above(fleet, 3, 1, ((0, 2, 3, 4), ("old",)))
+(('ann', 'bob'), ('ann',), True)
+>>> awake_from(fleet, "bob", 3)[1], devices_of(fleet, "new")
+(('bob', 'old', (5,)), ('cy', 'dan'))
+>>> paces = (("ann", ((1, 4), (6, 9))), ("bob", ((5, 5),)))
+>>> may_have(paces, "ann", 3), surely_has(paces, "ann", 5), may_meet(paces, "ann", "bob"), meeting(paces, "ann", "bob", (1, 0)), widest(paces)
+((0, 1), 1, ((0, 0), (1, 0), (1, 1), (2, 1)), 1, 1)
+>>> awake_from(fleet, "cy", 4)
+raises Unfit()
+'''
+WATCH = '''
+>>> row = (("a", "b"), ("a", "b"), (("mix", ("a", "b"), "a"), ("fix", ("a",), "b")), ())
+>>> watch = Watch(row)
+>>> watch.do(), watch.lose(), watch.here, watch.play(), watch.spoilt(), watch.begun(), watch.is_well()
+(None, None, 0, (1,), ('b',), (1, 1), False)
+>>> watch.contents()
+(('mix', (('old', 'a'), ('old', 'b'))), ('spoilt', 0))
+>>> words_for(row, (1,)), Watch(row).next_harm()
+(('do', 'lose', 'do', 'do'), 0)
+'''
 # For each session how many answers it has.
 SESSIONS = [
     (TERMS, 6), (ROWS_AND_TEXTS, 5), (LOSSES, 7), (MARKS, 5), (ORDERS, 5), (PLANS, 5), (IMAGES, 5), (SLOTS, 4),
+    (ROLLOUTS, 5), (FLEETS, 5), (WATCH, 3),
 ]
-MODULES = (errors, rows, texts, terms, losses, marks, orders, plans, arranging, images, slots)
+MODULES = (
+    errors, rows, texts, terms, losses, marks, orders, plans, arranging, images, slots, rollouts, fleets, paces, watch,
+)
 
 
 def told(error):
