@@ -80,7 +80,9 @@ class FormTest(unittest.TestCase):
         for path in FILES:
             for name in names_in(path):
                 self.assertRegex(name, "^(_|_?[A-Za-z][A-Za-z0-9_]*|__[a-z]+__)$", path.name)
-                self.assertTrue(name.startswith("__") or not hasattr(builtins, name), f"{path.name}: {name}")
+                # A doctest run in the same process leaves its last answer among the builtins as _.
+                allowed = name == "_" or name.startswith("__") or not hasattr(builtins, name)
+                self.assertTrue(allowed, f"{path.name}: {name}")
 
     def test_only_plain_builtins_are_called(self):
         for path in FILES:
