@@ -1,7 +1,8 @@
 """For each function of the interface its parameters and samples of arguments; those called thing keep their tuples."""
 
-from atanywrite import arranging, images, losses, marks, orders, plans, rows, slots, terms, texts
+from atanywrite import arranging, desk, images, losses, marks, orders, plans, rows, slots, terms, texts
 from tests.common import CHANGE, FULL, ROW, SINGLE, STILL
+from tests.samples_board import LISTED_OF_BOARD, SAMPLES_OF_BOARD
 from tests.samples_fleets import LISTED_OF_FLEETS, SAMPLES_OF_FLEETS
 
 MOVE = ("h", ("a", "b"), "b")
@@ -287,15 +288,15 @@ SLOTS = {
 
 SAMPLES = {
     **ROWS_AND_TEXTS, **TERMS, **LOSSES, **MARKS, **ORDERS, **PLANS, **ARRANGING, **IMAGES, **SLOTS,
-    **SAMPLES_OF_FLEETS,
+    **SAMPLES_OF_FLEETS, **SAMPLES_OF_BOARD,
 }
 # For each module how many functions the interface lists.
 LISTED = {
     rows: 26, texts: 7, terms: 30, losses: 22, marks: 22, orders: 28, plans: 16, arranging: 7, images: 18, slots: 22,
-    **LISTED_OF_FLEETS,
+    **LISTED_OF_FLEETS, **LISTED_OF_BOARD,
 }
 # Of these several results are a list.
 LISTS = (
     losses.contents_along, marks.all_markings, orders.right_orders, arranging.rounds_in, images.ways, slots.stands_along,
-    slots.all_stands,
+    slots.all_stands, desk.replies,
 )

@@ -2,8 +2,8 @@
 
 import unittest
 
-from atanywrite import arranging, errors, fleets, images, losses, marks, orders, paces, plans, rollouts, rows, slots
-from atanywrite import terms, texts, watch
+from atanywrite import arranging, board, claims, desk, edits, errors, fleets, images, losses, marks, orders, paces
+from atanywrite import plans, rollouts, rows, slots, terms, texts, watch
 from atanywrite.errors import RowError
 
 TERMS = '''
@@ -157,23 +157,61 @@ FLEETS = '''
 >>> awake_from(fleet, "cy", 4)
 raises Unfit()
 '''
-WATCH = '''
+EDITS = r'''
 >>> row = (("a", "b"), ("a", "b"), (("mix", ("a", "b"), "a"), ("fix", ("a",), "b")), ())
 >>> watch = Watch(row)
 >>> watch.do(), watch.lose(), watch.here, watch.play(), watch.spoilt(), watch.begun(), watch.is_well()
 (None, None, 0, (1,), ('b',), (1, 1), False)
 >>> watch.contents()
 (('mix', (('old', 'a'), ('old', 'b'))), ('spoilt', 0))
->>> words_for(row, (1,)), Watch(row).next_harm()
-(('do', 'lose', 'do', 'do'), 0)
+>>> words_for(row, (1,)), Watch(row).next_harm(), mending_swaps(row)
+(('do', 'lose', 'do', 'do'), 0, ())
+>>> one = guarded(row, 0, "a", "c")
+>>> one[2], one[3], Watch(one).next_harm()
+((('copy', ('a',), 'c'), ('mix', ('c', 'b'), 'a'), ('fix', ('a',), 'b')), (1,), 2)
+>>> both = guarded(one, 1, "b", "d")
+>>> both[3], Watch(both).next_harm(), undone_by(row, ("mark", 1)), is_idle(row, ("mark", 1))
+((1, 2), None, ('clear', 1), True)
+>>> edited(row, ("swap", 1))
+raises NoNumber(number=1)
+'''
+BOARD = r'''
+>>> moves = (("f", ("a",), "b"), ("g", ("b",), "b"))
+>>> row, torn = (("a", "b"), ("b",), moves, ()), (("a", "b"), ("b",), moves, (1,))
+>>> [stands(own) for own in (("keeps", row), ("keeps", torn), ("marked", torn, 0), ("dead", row, 0))]
+[True, False, True, False]
+>>> is_reason_for(("keeps", row), ((("a",), ("b",)),)), is_reason_against(("keeps", torn), (1,)), is_reason_against(("dead", row, 0), (0, 1))
+(True, True, True)
+>>> board = Board()
+>>> board.put("r", torn), board.keep("r", ("keeps",)), board.lose("r", 1), board.spot("r"), board.end("r"), board.sure("r")
+(None, None, None, 1, (('g', (('spoilt', 0),)),), ())
+>>> word_text(("cell", "a")), board.contents("r")
+('cell a', (('old', 'a'), ('spoilt', 0)))
+'''
+DESK = r'''
+>>> replies("put r cells a b; wanted b;\n f a to b; g b to b\nholds r\nmarking r\nlose r 1\nspot r\ncontents r\nend r\nundo\nplay r\ndeeds")
+['done', 'yes', '-', 'done', '0', 'a = a; b = 0', 'b = g(f(a))', 'done', '-', '1']
+>>> replies("put r cells a; wanted a; f a to a\nkeep r keeps\nkeep r dead 0\nhazards r\nmarking r\nstanding r\nmended r replace 0 f to a\nspoilt r cell b\nlose r 0\nend r")
+['done', 'done', 'done', '0 a 0', 'none', '-', 'keeps', '-', 'done', 'a = f(0)']
+>>> replies("put x cells a; wanted b\nput x cells a; wanted a\nput x cells b; wanted b\nlose x 0\nedit x drop z\nedit x drop a\nspot y\nkeep x dead 0\nrow x\nhazards x")
+['refused Unfit', 'done', 'refused Known', 'refused NoNumber', 'refused NoCell', 'refused Unfit', 'refused NoRow', 'refused Unfit', 'cells a; wanted a', '-']
+>>> term_text(("f", (("old", "a"), ("g", ()), ("spoilt", 2)))), term_from("f(a, g(), 2)") == ("f", (("old", "a"), ("g", ()), ("spoilt", 2))), edit_text(("insert", 0, ("f", (), "a"))), edit_from("name a b")
+('f(a, g(), 2)', True, 'insert 0 f to a', ('name', 'a', 'b'))
+>>> [is_request(own) for own in ("edit x insert 0 f a to b", "edit x insert 0 f a b", "lose x 00", "put x cells a", "keep x dead", "row X")]
+[True, False, False, False, False, False]
+>>> term_from("f(a,b)")
+raises BadText(piece=0)
+>>> replies("names\nnames x")
+raises BadLine(number=1)
 '''
 # For each session how many answers it has.
 SESSIONS = [
     (TERMS, 6), (ROWS_AND_TEXTS, 5), (LOSSES, 7), (MARKS, 5), (ORDERS, 5), (PLANS, 5), (IMAGES, 5), (SLOTS, 4),
-    (ROLLOUTS, 5), (FLEETS, 5), (WATCH, 3),
+    (ROLLOUTS, 5), (FLEETS, 5), (EDITS, 6), (BOARD, 4), (DESK, 7),
 ]
 MODULES = (
     errors, rows, texts, terms, losses, marks, orders, plans, arranging, images, slots, rollouts, fleets, paces, watch,
+    edits, claims, board, desk,
 )
 
 

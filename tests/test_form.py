@@ -10,10 +10,10 @@ FILES = sorted(path for path in PACKAGE.iterdir() if path.name != "__pycache__")
 LIBRARY = ("heapq", "math", "itertools", "collections")
 CALLED = (
     "len range enumerate zip min max sum abs sorted reversed int str bool list tuple dict set frozenset isinstance "
-    "ord repr any all divmod pow map iter next getattr hasattr setattr super"
+    "ord repr any all divmod pow map iter next getattr hasattr setattr super TypeError"
 ).split()
 NOT_USED = (
-    ast.Import, ast.AsyncFunctionDef, ast.Div, ast.GeneratorExp, ast.Try, ast.Global, ast.Nonlocal, ast.Lambda, ast.Yield,
+    ast.Import, ast.AsyncFunctionDef, ast.Div, ast.GeneratorExp, ast.Global, ast.Nonlocal, ast.Lambda, ast.Yield,
     ast.JoinedStr,
 )
 
@@ -36,6 +36,10 @@ def defined_in(path):
     body = tree_of(path).body
     found = [part.name for part in body if isinstance(part, (ast.FunctionDef, ast.ClassDef))]
     return found + [part.targets[0].id for part in body if isinstance(part, ast.Assign)]
+
+
+def properties_in(path):
+    return [node.name for node in nodes(path, ast.FunctionDef) if node.decorator_list]
 
 
 class FormTest(unittest.TestCase):
@@ -89,6 +93,22 @@ class FormTest(unittest.TestCase):
             for node in nodes(path, ast.Call):
                 if isinstance(node.func, ast.Name) and hasattr(builtins, node.func.id):
                     self.assertIn(node.func.id, CALLED, path.name)
+
+    def test_only_own_errors_are_caught(self):
+        own = defined_in(PACKAGE / "errors.py")
+        for path in FILES:
+            for node in nodes(path, ast.ExceptHandler):
+                self.assertIsInstance(node.type, ast.Name, path.name)
+                self.assertIn(node.type.id, own, path.name)
+
+    def test_no_attribute_has_the_name_of_a_property(self):
+        kept = {name for path in FILES for name in properties_in(path)}
+        self.assertEqual(kept, {"row", "told", "here", "names", "deeds"})
+        for path in FILES:
+            methods = [node.name for node in nodes(path, ast.FunctionDef)]
+            self.assertEqual([name for name in methods if name in kept], properties_in(path), path.name)
+            stored = [node.attr for node in nodes(path, ast.Attribute) if isinstance(node.ctx, ast.Store)]
+            self.assertEqual([name for name in stored if name in kept], [], path.name)
 
     def test_what_is_not_used(self):
         for path in FILES:
