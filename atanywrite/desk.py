@@ -11,23 +11,16 @@ from atanywrite.terms import is_term
 from atanywrite.texts import BETWEEN, NOTHING, names_text, numbers_text, row_from, row_text
 from atanywrite.wordings import A_MOVE, A_NUMBER, are_edit_words, are_word_words, edit_parts
 
-# What stands behind the name in a request.
-NO_MORE = "nothing"
-A_ROW = "a row"
-A_NEW_NAME = "a name"
-A_LOSS = "a number"
-A_WORD = "a word"
-AN_EDIT = "an edit"
-# Requests without a name; those of which the reply is done; those that ask for something.
+# Requests without a name; those of which the reply is done; those that ask for something. The last two have a name,
+# and behind it what is told here.
 ALONE = ("undo", "names", "deeds")
 DEEDS = {
-    "put": A_ROW, "drop": NO_MORE, "rename": A_NEW_NAME, "edit": AN_EDIT, "lose": A_LOSS, "keep": A_WORD,
-    "free": A_WORD,
+    "put": "row", "drop": "nothing", "rename": "name", "edit": "edit", "lose": "number", "keep": "word", "free": "word",
 }
 QUESTIONS = {
-    "row": NO_MORE, "play": NO_MORE, "spot": NO_MORE, "contents": NO_MORE, "end": NO_MORE, "holds": NO_MORE,
-    "hazards": NO_MORE, "marking": NO_MORE, "words": NO_MORE, "standing": NO_MORE, "lost": NO_MORE, "sure": NO_MORE,
-    "spoilt": AN_EDIT, "mended": AN_EDIT,
+    "row": "nothing", "play": "nothing", "spot": "nothing", "contents": "nothing", "end": "nothing",
+    "holds": "nothing", "hazards": "nothing", "marking": "nothing", "words": "nothing", "standing": "nothing",
+    "lost": "nothing", "sure": "nothing", "spoilt": "edit", "mended": "edit",
 }
 DONE = "done"
 
@@ -147,18 +140,19 @@ def _is_right(request):
     kind = DEEDS.get(words[0], QUESTIONS.get(words[0]))
     if kind is None or len(words) < 2 or not is_name(words[1]):
         return False
-    return words[2:] == [] if kind == NO_MORE else words[2:] != [] and _is_right_behind(kind, words[2:])
+    rest = words[2:]
+    return rest == [] if kind == "nothing" else rest != [] and _is_right_behind(kind, rest)
 
 
 def _is_right_behind(kind, words):
     """Whether these words, one or more, may stand behind the name where something of this kind does."""
-    if kind == A_ROW:
+    if kind == "row":
         return wrong_piece(" ".join(words).split(BETWEEN)) is None
-    if kind == AN_EDIT:
+    if kind == "edit":
         return are_edit_words(words)
-    if kind == A_WORD:
+    if kind == "word":
         return are_word_words(words)
-    return len(words) == 1 and (is_name(words[0]) if kind == A_NEW_NAME else is_numeral(words[0]))
+    return len(words) == 1 and (is_name(words[0]) if kind == "name" else is_numeral(words[0]))
 
 
 def replies(text):

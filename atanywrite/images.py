@@ -29,7 +29,7 @@ def _is_written(thing):
 
 
 def _is_text(thing):
-    return isinstance(thing, str) and thing != "" and all([letter in LETTERS for letter in thing])
+    return isinstance(thing, str) and thing.isascii() and thing.isalpha() and thing.islower()
 
 
 def _texts(image):
@@ -52,8 +52,11 @@ def text_of(image, block):
 
 
 def _need_alike(image, other):
-    if _blocks(image) != _blocks(other) or _length(image) != _length(other):
+    if len(image) != len(other) or _length(image) != _length(other):
         raise Unfit()
+    for pair, another in zip(image, other):
+        if pair[0] != another[0]:
+            raise Unfit()
 
 
 def apart(image, other):
@@ -76,16 +79,26 @@ def moved_on(image, other):
 def ways(image, other, block):
     """The ascending list of all WAYS to make this block of other from image."""
     text = _text_to_make(image, other, block)
-    found = [(RAW, text)]
-    for near in _blocks(image):
-        found.append((COPY, near))
-        for far in _blocks(image):
-            found.extend([(SHIFT, near, far, number) for number in range(1, _length(image))])
-    return sorted([way for way in found if text_by(image, way) == text])
+    return _ways_to(_texts(image), text)
+
+
+def _ways_to(texts, text):
+    """The ascending list of all WAYS to make this text from blocks with these texts."""
+    found = [(COPY, near) for near in list(texts) if texts[near] == text]
+    found.append((RAW, text))
+    shifts = []
+    for number in range(1, len(text)):
+        head = text[:len(text) - number]
+        nears = [near for near in list(texts) if texts[near].endswith(head)]
+        if nears:
+            tail = text[len(text) - number:]
+            fars = [far for far in list(texts) if texts[far].startswith(tail)]
+            shifts.extend([(SHIFT, near, far, number) for near in nears for far in fars])
+    return found + sorted(shifts)
 
 
 def _text_to_make(image, other, block):
-    need_blocks(_blocks(image), [block])
+    need_blocks(_texts(image), [block])
     _need_alike(image, other)
     return _texts(other)[block]
 
@@ -93,22 +106,30 @@ def _text_to_make(image, other, block):
 def is_way(image, other, block, thing):
     """Whether thing is a WAY to make this block of other from image."""
     text = _text_to_make(image, other, block)
+    return _is_way_to(_texts(image), text, thing)
+
+
+def _is_way_to(texts, text, thing):
+    """Whether thing is a WAY to make this text from blocks with these texts."""
     if not isinstance(thing, tuple) or not _is_kind_of_way(thing):
         return False
-    if not all([near in _blocks(image) for near in _reads(thing)]):
+    if thing[0] == RAW:
+        return thing[1] == text
+    if thing[0] == COPY:
+        return thing[1] in texts and texts[thing[1]] == text
+    _, near, far, number = thing
+    if near not in texts or far not in texts or not 1 <= number < len(text):
         return False
-    if thing[0] == SHIFT and not 1 <= thing[3] < _length(image):
-        return False
-    return text_by(image, thing) == text
+    return texts[near][number:] + texts[far][:number] == text
 
 
 def _is_kind_of_way(thing):
     """Whether the tuple has the parts that a WAY has, whatever they tell."""
-    if not all([isinstance(part, str) for part in thing[:3]]):
+    if len(thing) == 2:
+        return thing[0] in (COPY, RAW) and isinstance(thing[1], str)
+    if len(thing) != 4 or thing[0] != SHIFT:
         return False
-    if thing[:1] == (SHIFT,):
-        return len(thing) == 4 and is_number(thing[3])
-    return len(thing) == 2 and thing[0] in (COPY, RAW)
+    return isinstance(thing[1], str) and isinstance(thing[2], str) and is_number(thing[3])
 
 
 def _reads(way):
@@ -135,23 +156,27 @@ def text_by(image, way):
 def is_making(image, other, thing):
     """Whether thing is a MAKING of other from image."""
     _need_alike(image, other)
-    blocks = _blocks(other)
-    if not isinstance(thing, tuple) or len(thing) != len(blocks):
+    return _is_making_of(_texts(image), other, thing)
+
+
+def _is_making_of(texts, other, thing):
+    """Whether thing is a MAKING of other from blocks with these texts."""
+    if not isinstance(thing, tuple) or len(thing) != len(other):
         return False
-    return all([is_way(image, other, block, way) for block, way in zip(blocks, thing)])
+    return all([_is_way_to(texts, text, way) for (_, text), way in zip(other, thing)])
 
 
-def _need_blocks_of(image, making):
+def _need_blocks_of(texts, making):
     for way in making:
         # What is no WAY at all names no blocks.
         if isinstance(way, tuple) and _is_kind_of_way(way):
-            need_blocks(_blocks(image), _reads(way))
+            need_blocks(texts, _reads(way))
 
 
 def image_by(image, making):
     """The IMAGE with the blocks of image that these WAYS make."""
     told = frozen(making)
-    _need_blocks_of(image, told)
+    _need_blocks_of(_texts(image), told)
     if len(told) != len(image):
         raise Unfit()
     made = tuple([(block, text_by(image, way)) for block, way in zip(_blocks(image), told)])
@@ -173,12 +198,13 @@ def _raw_texts(making):
 def least_making(image, other):
     """Of the MAKINGS with the fewest letters those whose WAYS read the fewest blocks, of these the least."""
     _need_alike(image, other)
-    return tuple([_least_way(image, other, block) for block in _blocks(other)])
+    texts = _texts(image)
+    return tuple([_least_way(texts, text) for block, text in other])
 
 
-def _least_way(image, other, block):
+def _least_way(texts, text):
     # A text that has another WAY is raw nowhere: all blocks with this text have that WAY, too.
-    found = ways(image, other, block)
+    found = _ways_to(texts, text)
     sent_not = [(len(_reads(way)), way) for way in found if way[0] != RAW]
     return min(sent_not)[1] if sent_not else found[0]
 
@@ -186,10 +212,12 @@ def _least_way(image, other, block):
 def change_by(image, other, making):
     """The CHANGE by this MAKING."""
     told = frozen(making)
-    _need_blocks_of(image, told)
-    if not is_making(image, other, told):
+    texts = _texts(image)
+    _need_blocks_of(texts, told)
+    _need_alike(image, other)
+    if not _is_making_of(texts, other, told):
         raise Unfit()
-    return _change_by(_blocks(image), told)
+    return _change_by(tuple(texts), told)
 
 
 def _change_by(blocks, making):
@@ -209,29 +237,55 @@ def _recipe_by(way, raw):
 
 def fits(image, other, making, spares):
     """Whether some ORDER of the CHANGE by this MAKING is right with so many SPARES."""
-    return _has_room(change_by(image, other, making), spares)
-
-
-def _has_room(change, spares):
-    return can_come(Room(change), 0, spares)
+    return can_come(Room(change_by(image, other, making)), 0, spares)
 
 
 def lean_making(image, other, spares):
     """Of the MAKINGS that fit those with the fewest letters, of these the least."""
     _need_alike(image, other)
-    makings = [()]
-    for block in _blocks(other):
-        makings = [(*making, way) for making in makings for way in ways(image, other, block)]
-    blocks = _blocks(image)
-    for many, making in sorted([(letters(making), making) for making in makings]):
-        if _has_room(_change_by(blocks, making), spares):
+    choices = _choices(image, other)
+    for many in range(len(choices) + 1):
+        making = _lean_with(_blocks(image), choices, spares, many)
+        if making is not None:
             return making
+    return None
+
+
+def _choices(image, other):
+    """For each block of other its WAYS."""
+    texts = _texts(image)
+    return [_ways_to(texts, text) for block, text in other]
+
+
+def _lean_with(blocks, choices, spares, many):
+    """The least MAKING that fits and sends so many unlike raw texts; None if there is none."""
+    # The WAYS so far with the texts sent so far; the last one is gone on with, so the least come last.
+    todo = [((), ())]
+    while todo:
+        making, sent = todo.pop()
+        if len(making) == len(choices):
+            if len(sent) == many and can_come(Room(_change_by(blocks, making)), 0, spares):
+                return making
+            continue
+        for way in choices[len(making)][::-1]:
+            then = (*sent, way[1]) if way[0] == RAW and way[1] not in sent else sent
+            if len(then) <= many:
+                todo.append(((*making, way), then))
     return None
 
 
 def letters_by_spares(image, other):
     """The tuple of the letters of the lean MAKING with 1, 2 and 3 spares."""
-    return tuple([letters(lean_making(image, other, spares)) for spares in range(1, MOST_SPARES + 1)])
+    _need_alike(image, other)
+    choices = _choices(image, other)
+    found = []
+    many = 0
+    # With fewer spares no fewer are sent.
+    for spares in range(MOST_SPARES, 0, -1):
+        while _lean_with(_blocks(image), choices, spares, many) is None:
+            many += 1
+        found.append(many * _length(image))
+    return tuple(found[::-1])
 
 
 def behind(one, other):

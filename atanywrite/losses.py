@@ -6,7 +6,7 @@ from atanywrite.plays import end_numbers, held_behind_play, left_by, marks_below
 from atanywrite.pools import Pool, held_at_first
 from atanywrite.rows import spots, stretches
 from atanywrite.shapes import as_set, frozen, is_number, is_same
-from atanywrite.spans import hazards_in
+from atanywrite.spans import far_end, hazards_in
 from atanywrite.terms import counting
 
 MOST_BEGUN = 20
@@ -126,7 +126,8 @@ def is_hazard(row, thing):
 
 def keeps(row):
     """Whether all PLAYS of the ROW have the END of ()."""
-    return hazards(row) == ()
+    counts = {number: True for number in counting(row)}
+    return all([far_end(row[2], counts, first, last) == last for first, last in stretches(row)])
 
 
 def losses_against(row):

@@ -1,73 +1,87 @@
 """MOVES by which the TERMS of a CHANGE come to be held by the cells of its blocks."""
 
-from atanywrite.rooms import recipe_term
+from atanywrite.shapes import COPY
 
 
 class Ground:
-    """The cells of a CHANGE with what they hold, and the MOVES done on them one behind another."""
+    """The cells of a CHANGE with what they hold, told by the bits of its Room, and the MOVES done on them."""
 
-    def __init__(self, change, cells):
-        self.blocks, recipes = change
+    def __init__(self, room, change, cells):
+        self.room = room
+        self.recipes = change[1]
         self.cells = cells
-        self.recipes = {recipe_term(recipe): recipe for recipe in recipes}
-        self.goal = {block: recipe_term(recipe) for block, recipe in zip(self.blocks, recipes)}
-        self.held = {cell: ("old", cell) for cell in cells}
+        at = {cell: place for place, cell in enumerate(cells)}
+        # Where the cells of the blocks stand, in the order of these.
+        self.own = [at[block] for block in room.blocks]
+        # Nobody asks for what spare cells hold at first: no bit tells it.
+        self.held = [0] * len(cells)
+        for place, cell in enumerate(self.own):
+            self.held[cell] = 1 << place
         self.moves = []
-
-    def holders(self, term):
-        """The cells that hold this TERM."""
-        return [cell for cell in self.cells if self.held[cell] == term]
 
     def is_free(self, cell, needed):
         """Whether the cell may be written so that the TERMS needed are still held."""
-        return self.held[cell] not in needed or len(self.holders(self.held[cell])) > 1
-
-    def is_right(self, cell):
-        """Whether the cell is that of a block and holds what it ought to hold in the end."""
-        return cell in self.goal and self.held[cell] == self.goal[cell]
+        return self.held[cell] & needed == 0 or self.held.count(self.held[cell]) > 1
 
     def source(self, term, cell):
         """Another cell than this one that holds the TERM."""
-        return [holder for holder in self.holders(term) if holder != cell][0]
+        place = self.held.index(term)
+        return self.cells[self.held.index(term, place + 1) if place == cell else place]
 
     def copy_to(self, term, cell):
         """The TERM is copied to this cell."""
-        self.note(("copy", (self.source(term, cell),), cell), term)
+        self.moves.append((COPY, (self.source(term, cell),), self.cells[cell]))
+        self.held[cell] = term
 
-    def make(self, term, cell):
-        """The TERM is made in this cell by its function."""
-        name, reads = self.recipes[term]
-        self.note((name, tuple([self.source(("old", read), cell) for read in reads]), cell), term)
+    def make(self, place, cell):
+        """The TERM of the block at this place is made in this cell by its function."""
+        name, reads = self.recipes[place]
+        sources = tuple([self.source(self.room.bits[read], cell) for read in reads])
+        self.moves.append((name, sources, self.cells[cell]))
+        self.held[cell] = self.room.term_bits[place]
 
-    def note(self, move, term):
-        """This move, which writes the TERM, is done."""
-        self.moves.append(move)
-        self.held[move[2]] = term
+    def wrong_blocks(self):
+        """The places of the blocks whose cells do not hold what they ought to."""
+        wanted = self.room.term_bits
+        return [place for place, cell in enumerate(self.own) if self.held[cell] != wanted[place]]
 
 
-def make_next(ground, term, needed):
-    """The TERM comes to be held, and those needed are still; there has to be room for all of them."""
-    if ground.holders(term) != []:
+def make_in_order(ground, order):
+    """The TERMS of all blocks come to be held, in this ORDER; there has to be room for it."""
+    room = ground.room
+    made = 0
+    for block in order:
+        bit = room.bits[block]
+        place = bit.bit_length() - 1
+        _make_next(ground, place, room.kept(made) & ~room.term_bits[place])
+        made = made | bit
+
+
+def _make_next(ground, place, needed):
+    """The TERM of this block comes to be held, and those needed are still."""
+    terms = ground.room.term_bits
+    if terms[place] in ground.held:
         return
-    free = [cell for cell in ground.cells if ground.is_free(cell, needed)]
-    own = [cell for cell in free if ground.goal.get(cell) == term]
-    ground.make(term, [*own, *free][0])
+    own = [cell for other, cell in enumerate(ground.own) if terms[other] == terms[place]]
+    for cell in own + list(range(len(ground.cells))):
+        if ground.is_free(cell, needed):
+            ground.make(place, cell)
+            return
 
 
 def arrange(ground):
     """Each block's cell comes to hold what it ought to hold; all of this is held somewhere."""
-    left = _wrong_blocks(ground)
+    terms = ground.room.term_bits
+    left = ground.wrong_blocks()
     while left:
-        needed = [ground.goal[block] for block in left]
-        free = [block for block in left if ground.is_free(block, needed)]
+        needed = 0
+        for place in left:
+            needed = needed | terms[place]
+        free = [place for place in left if ground.is_free(ground.own[place], needed)]
         if free:
-            ground.copy_to(ground.goal[free[0]], free[0])
+            ground.copy_to(terms[free[0]], ground.own[free[0]])
         else:
-            # These hold one another's TERMS: one of them steps aside.
-            aside = [cell for cell in ground.cells if cell not in left and not ground.is_right(cell)]
-            ground.copy_to(ground.held[left[0]], aside[0])
-        left = _wrong_blocks(ground)
-
-
-def _wrong_blocks(ground):
-    return [block for block in ground.blocks if not ground.is_right(block)]
+            # These hold one another's TERMS: one of them steps aside, to a spare cell.
+            aside = [cell for cell in range(len(ground.cells)) if cell not in ground.own]
+            ground.copy_to(ground.held[ground.own[left[0]]], aside[0])
+        left = ground.wrong_blocks()

@@ -2,8 +2,9 @@
 
 from atanywrite.checks import need_blocks, need_new, need_number, need_spares
 from atanywrite.errors import Unfit
-from atanywrite.rooms import Room, can_come, order_with, recipe_term, steps_of, ways_on
-from atanywrite.rows import is_change, is_order
+from atanywrite.rooms import Room, can_come, first_order, least_order, need_order, order_with, recipe_term, steps_of
+from atanywrite.rooms import ways_on
+from atanywrite.rows import is_change
 from atanywrite.shapes import as_set, ascends, frozen, is_set_of
 
 
@@ -14,13 +15,13 @@ def reads_of(change, block):
 
 
 def _recipe_of(change, block):
-    return frozen(change[1])[list(change[0]).index(block)]
+    return change[1][list(change[0]).index(block)]
 
 
 def readers_of(change, block):
     """The set of the blocks whose recipes read this old one."""
     need_blocks(change[0], [block])
-    return tuple([other for other in change[0] if block in reads_of(change, other)])
+    return tuple([other for other, (_, reads) in zip(change[0], change[1]) if block in reads])
 
 
 def term_of(change, block):
@@ -32,22 +33,27 @@ def term_of(change, block):
 def needed_behind(change, some):
     """The set of the old blocks that the recipes of all blocks but these read."""
     need_blocks(change[0], some)
-    left = [block for block in change[0] if block not in some]
-    return as_set([read for block in left for read in reads_of(change, block)])
+    return as_set(_reads_behind(change, some))
+
+
+def _reads_behind(change, some):
+    """What the recipes of all blocks but these read, alike ones as often as they do."""
+    return [read for block, (_, reads) in zip(change[0], change[1]) if block not in some for read in reads]
 
 
 def let_go(change, some, block):
     """The set of the old blocks that no recipe reads any more when this one is made behind these."""
     _need_next(change, some, block)
-    needed = needed_behind(change, (*some, block))
-    return tuple([old for old in needed_behind(change, some) if old not in needed])
+    needed = _reads_behind(change, (*some, block))
+    return as_set([old for old in _reads_behind(change, some) if old not in needed])
 
 
 def held_at(change, some, block):
     """The set of the TERMS that are held when this block is made behind these."""
     _need_next(change, some, block)
-    olds = [("old", read) for read in needed_behind(change, some)]
-    return as_set(olds + [term_of(change, made) for made in (*some, block)])
+    olds = [("old", read) for read in _reads_behind(change, some)]
+    made = [recipe_term(recipe) for own, recipe in zip(change[0], change[1]) if own == block or own in some]
+    return as_set(olds + made)
 
 
 def _need_next(change, some, block):
@@ -60,7 +66,7 @@ def let_next(change, some, spares):
     """The set of the blocks that are let next behind these."""
     need_blocks(change[0], some)
     need_spares(spares)
-    room = Room(frozen(change))
+    room = Room(change)
     return tuple([room.blocks[place] for place in room.let(room.number_of(some), spares)])
 
 
@@ -68,37 +74,20 @@ def can_go_on(change, some, spares):
     """Whether, these being made, all others can be made one behind another, each let next."""
     need_blocks(change[0], some)
     need_spares(spares)
-    room = Room(frozen(change))
+    room = Room(change)
     return can_come(room, room.number_of(some), spares)
-
-
-def _steps(room, spares):
-    return steps_of(room, spares, [0] * room.many)
 
 
 def needs_along(change, order):
     """How many TERMS are held at each of the blocks of the ORDER."""
-    _need_order(change, order)
-    return tuple(_needs(Room(frozen(change)), order))
-
-
-def _need_order(change, order):
-    need_blocks(change[0], order)
-    if not is_order(change, frozen(order)):
-        raise Unfit()
-
-
-def _needs(room, order):
-    found = []
-    for at, block in enumerate(order):
-        place = list(room.blocks).index(block)
-        found.append(room.need(room.number_of(order[:at]), place))
-    return found
+    need_order(change, order)
+    return tuple(Room(change).needs(order))
 
 
 def spares_for(change, order):
     """The least SPARES with which the ORDER is right."""
-    return max(1, max(needs_along(change, order)) - len(change[0]))
+    need_order(change, order)
+    return Room(change).spares_of(order)
 
 
 def is_right(change, order, spares):
@@ -110,29 +99,25 @@ def is_right(change, order, spares):
 
 def tight_places(change, order):
     """The set of the places in the ORDER at which as much is held as its least SPARES let."""
-    most = len(change[0]) + spares_for(change, order)
+    most = len(order) + spares_for(change, order)
     return tuple([at for at, many in enumerate(needs_along(change, order)) if many == most])
 
 
 def least_spares(change):
     """The least SPARES with which some ORDER is right."""
-    room = Room(frozen(change))
-    spares = 1
-    while not can_come(room, 0, spares):
-        spares += 1
-    return spares
+    return least_order(Room(change))[0]
 
 
 def best_order(change):
     """The least of the ORDERS that are right with the least SPARES."""
-    return nth_right(change, least_spares(change), 0)
+    return least_order(Room(change))[1]
 
 
 def right_orders(change, spares):
     """The ascending list of the ORDERS that are right with so many SPARES."""
     need_spares(spares)
-    room = Room(frozen(change))
-    steps = _steps(room, spares)
+    room = Room(change)
+    steps = steps_of(room, spares)
     ways = ways_on(room, steps)
     # Blocks come in ascending order at each step, so the ORDERS do, too.
     found = [((), 0)]
@@ -149,24 +134,25 @@ def right_orders(change, spares):
 def how_many_right(change, spares):
     """How many ORDERS are right with so many SPARES."""
     need_spares(spares)
-    room = Room(frozen(change))
-    return ways_on(room, _steps(room, spares))[0]
+    room = Room(change)
+    return ways_on(room, steps_of(room, spares))[0]
 
 
 def nth_right(change, spares, number):
     """The ORDER with this number among those that are right with so many SPARES."""
     need_spares(spares)
-    room = Room(frozen(change))
-    steps = _steps(room, spares)
-    need_number(number, 0, ways_on(room, steps)[0] - 1)
-    return order_with(room, steps, number)
+    room = Room(change)
+    steps = steps_of(room, spares)
+    ways = ways_on(room, steps)
+    need_number(number, 0, ways[0] - 1)
+    return order_with(room, steps, ways, number)
 
 
 def made_sets(change, spares):
     """The set of the sets that come."""
     need_spares(spares)
-    room = Room(frozen(change))
-    return _named(room, list(_steps(room, spares)))
+    room = Room(change)
+    return _named(room, list(steps_of(room, spares)))
 
 
 def _named(room, sets):
@@ -176,8 +162,8 @@ def _named(room, sets):
 def stuck_sets(change, spares):
     """The set of the sets that come, but the whole, where no block is let next."""
     need_spares(spares)
-    room = Room(frozen(change))
-    steps = _steps(room, spares)
+    room = Room(change)
+    steps = steps_of(room, spares)
     return _named(room, [some for some in list(steps) if steps[some] == [] and some != room.whole()])
 
 
@@ -195,36 +181,39 @@ def is_fence(change, spares, thing):
         return False
     if not ascends(thing) or () not in thing or blocks in thing:
         return False
-    for some in thing:
-        for block in let_next(change, some, spares):
-            if as_set([*some, block]) not in thing:
-                return False
-    return True
+    room = Room(change)
+    known = {room.number_of(some): True for some in thing}
+    return all([made | 1 << place in known for made in list(known) for place in room.let(made, spares)])
 
 
 def turned(change, order, number):
     """The ORDER with the block at this place and the next one turned about."""
-    _need_order(change, order)
+    need_order(change, order)
     need_number(number, 0, len(order) - 2)
-    blocks = frozen(order)
-    return (*blocks[:number], blocks[number + 1], blocks[number], *blocks[number + 2:])
+    return _with_turn(order, number)
+
+
+def _with_turn(order, number):
+    return (*order[:number], order[number + 1], order[number], *order[number + 2:])
 
 
 def saving_turns(change, order):
     """The set of the numbers of turns that need fewer SPARES."""
-    most = spares_for(change, order)
-    return tuple([at for at in range(len(order) - 1) if spares_for(change, turned(change, order, at)) < most])
+    need_order(change, order)
+    room = Room(change)
+    most = room.spares_of(order)
+    return tuple([at for at in range(len(order) - 1) if room.spares_of(_with_turn(order, at)) < most])
 
 
 def goes_behind(change):
     """The set of the pairs of which the first block goes behind the second one."""
-    blocks = change[0]
-    return tuple([(one, other) for one in blocks for other in blocks if _goes_behind(change, one, other)])
+    reads = [(block, as_set(recipe[1])) for block, recipe in zip(change[0], change[1])]
+    return tuple([(one, other) for one, mine in reads for other, others in reads
+                  if _goes_behind(one, mine, other, others)])
 
 
-def _goes_behind(change, one, other):
-    mine = reads_of(change, one)
-    others = reads_of(change, other)
+def _goes_behind(one, mine, other, others):
+    """Whether the first block goes behind the second one, where they read these."""
     if mine == others:
         return one > other
     return all([block in others for block in mine])
@@ -232,17 +221,17 @@ def _goes_behind(change, one, other):
 
 def keeps_behind(change, order):
     """Whether each block stands in the ORDER behind all that it goes behind."""
-    _need_order(change, order)
+    need_order(change, order)
     at = {block: place for place, block in enumerate(order)}
     return all([at[one] > at[other] for one, other in goes_behind(change)])
 
 
 def order_behind(change):
     """The least of the ORDERS that are right with the least SPARES, each block behind all that it goes behind."""
-    room = Room(frozen(change))
+    room = Room(change)
     pairs = goes_behind(change)
     behind = [room.number_of([other for one, other in pairs if one == block]) for block in room.blocks]
-    return order_with(room, steps_of(room, least_spares(change), behind), 0)
+    return first_order(room, least_order(room)[0], behind)
 
 
 def beside(one, other):

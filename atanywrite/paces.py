@@ -38,9 +38,9 @@ def _times(paces, device):
     """For each version of the device the first moment at which it may have it, and the first one from which not."""
     steps = {own: behind for own, behind in paces}
     need_devices(steps, [device])
-    lows = [0, *[low for low, high in steps[device]]]
+    lows = [0] + [low for low, high in steps[device]]
     # The last version has no end.
-    ends = [*[high for low, high in steps[device]], None]
+    ends = [high for low, high in steps[device]] + [None]
     return list(zip(lows, ends))
 
 

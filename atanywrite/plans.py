@@ -4,22 +4,22 @@ from atanywrite.arranging import cells_of
 from atanywrite.checks import need_blocks
 from atanywrite.errors import CanNot, Unfit
 from atanywrite.losses import keeps
-from atanywrite.making import Ground, arrange, make_next
-from atanywrite.orders import best_order, held_at, least_spares, spares_for, term_of
+from atanywrite.making import Ground, arrange, make_in_order
 from atanywrite.pools import Pool, held_at_first, number_by
-from atanywrite.rows import all_marked, is_row
+from atanywrite.rooms import Room, least_order, need_order, recipe_term
+from atanywrite.rows import is_row
 from atanywrite.shapes import COPY, as_set, frozen
 from atanywrite.shortest import fewest_moves
 
 
 def goal_of(change):
     """The tuple of the TERMS that the blocks ought to hold at the end."""
-    return tuple([term_of(change, block) for block in change[0]])
+    return tuple([recipe_term(recipe) for recipe in change[1]])
 
 
 def stays(change):
     """The set of the blocks whose recipes copy themselves."""
-    return tuple([block for block in change[0] if term_of(change, block) == ("old", block)])
+    return tuple([block for block, (name, reads) in zip(change[0], change[1]) if name == COPY and reads[0] == block])
 
 
 def made_blocks(change):
@@ -70,106 +70,118 @@ def least_saved(change):
 
 def plan_faults(change, spares, row):
     """The set of the words for what the ROW lacks as a PLAN."""
-    if frozen(row[0]) != cells_of(change, spares) or frozen(row[1]) != frozen(change[0]):
-        return ("cells",)
+    return _faults(change, spares, frozen(row))[0]
+
+
+def _faults(change, spares, row):
+    """The faults, the numbers of the TERMS that the MOVES write, undisturbed, and of those of GOAL."""
+    cells, wanted, moves, _ = row
+    if cells != cells_of(change, spares) or wanted != tuple(change[0]):
+        return (("cells",), [], [])
     pool = Pool()
-    written, end = _run(pool, frozen(row))
-    olds = held_at_first(pool, change[0])
-    goal = [number_by(pool, olds, (*recipe, block)) for block, recipe in zip(change[0], change[1])]
-    right = [*goal, *list(olds.values())]
+    held = held_at_first(pool, cells)
+    goal = [number_by(pool, held, (*recipe, block)) for block, recipe in zip(change[0], change[1])]
+    right = {number: True for number in [*goal, *[held[block] for block in wanted]]}
+    written = []
+    for move in moves:
+        written.append(number_by(pool, held, move))
+        held[move[2]] = written[-1]
     faults = []
-    if end != goal:
+    if [held[block] for block in wanted] != goal:
         faults.append("goal")
     if not keeps(row):
         faults.append("keeps")
     if not all([number in right for number in written]):
         faults.append("way")
-    return tuple(faults)
-
-
-def _run(pool, row):
-    """The numbers of the TERMS that the MOVES write, undisturbed, and of those that the wanted cells hold then."""
-    cells, wanted, moves, _ = row
-    held = held_at_first(pool, cells)
-    written = []
-    for move in moves:
-        written.append(number_by(pool, held, move))
-        held[move[2]] = written[-1]
-    return (written, [held[cell] for cell in wanted])
+    return (tuple(faults), written, goal)
 
 
 def is_plan(change, spares, thing):
     """Whether thing is a PLAN."""
-    return is_row(thing) and plan_faults(change, spares, thing) == ()
+    return is_row(thing) and _faults(change, spares, thing)[0] == ()
 
 
 def order_of_plan(change, spares, row):
     """The ORDER by which the PLAN goes: made blocks of one TERM together, the others behind all, all ascending."""
-    first = _made_last(change, spares, row)
-    made = made_blocks(change)
-    blocks = [block for term in first for block in made if term_of(change, block) == term]
-    return tuple(blocks + [block for block in change[0] if block not in made])
+    last, goal = _made_last(change, spares, row)
+    made = [(block, number) for block, (name, _), number in zip(change[0], change[1], goal) if name != COPY]
+    others = [block for block, (name, _) in zip(change[0], change[1]) if name == COPY]
+    return tuple([block for own in last for block, number in made if number == own] + others)
 
 
 def _made_last(change, spares, row):
-    """The TERMS of made blocks in the order in which the PLAN last writes them by their functions."""
+    """The numbers of the TERMS in the order in which the PLAN last makes them by functions, and those of the goal."""
     plan = frozen(row)
-    if not is_plan(change, spares, plan):
+    if not is_row(plan):
         raise Unfit()
-    pool = Pool()
-    written = pool.terms(_run(pool, plan)[0])
-    last = {term: at for at, (term, move) in enumerate(zip(written, plan[2])) if move[0] != COPY}
-    return [written[at] for at in sorted(list(last.values()))]
+    faults, written, goal = _faults(change, spares, plan)
+    if faults != ():
+        raise Unfit()
+    last = {number: at for at, (number, move) in enumerate(zip(written, plan[2])) if move[0] != COPY}
+    return ([written[at] for at in sorted(list(last.values()))], goal)
 
 
 def goes_by(change, spares, row, order):
     """Whether the ROW, a PLAN, goes by this ORDER."""
-    made = made_blocks(change)
-    terms = []
-    for term in [term_of(change, block) for block in order if block in made]:
-        if term not in terms:
-            terms.append(term)
-    return terms == _made_last(change, spares, row)
+    last, goal = _made_last(change, spares, row)
+    made = {block: number for block, (name, _), number in zip(change[0], change[1], goal) if name != COPY}
+    numbers = []
+    for block in order:
+        if block in made and made[block] not in numbers:
+            numbers.append(made[block])
+    return numbers == last
 
 
 def plan_by(change, spares, order):
     """A PLAN by this ORDER."""
-    if spares_for(change, order) > len(spares):
+    need_order(change, order)
+    room = Room(change)
+    if room.spares_of(order) > len(spares):
         raise CanNot()
-    ground = Ground(frozen(change), cells_of(change, spares))
-    for at, block in enumerate(order):
-        term = term_of(change, block)
-        make_next(ground, term, [other for other in held_at(change, order[:at], block) if other != term])
+    return _plan_along(room, change, spares, order)
+
+
+def _plan_along(room, change, spares, order):
+    """The PLAN by this ORDER, which is right with so many SPARES."""
+    cells = cells_of(change, spares)
+    ground = Ground(room, change, cells)
+    make_in_order(ground, order)
     arrange(ground)
-    return _plan_of(change, spares, tuple(ground.moves))
+    return _plan_of(cells, room.blocks, tuple(ground.moves))
 
 
-def _plan_of(change, spares, moves):
+def _plan_of(cells, blocks, moves):
     # With all marks each MOVE is a STRETCH of its own, and none reads what it writes.
-    return all_marked((cells_of(change, spares), frozen(change[0]), moves, ()))
+    return (cells, blocks, moves, tuple(range(1, len(moves))))
 
 
 def can_do(change, spares):
     """Whether there is a PLAN."""
-    return least_spares(change) <= len(spares)
+    return least_order(Room(change))[0] <= len(spares)
 
 
 def plan_for(change, spares):
     """A PLAN; None if there is none."""
-    return plan_by(change, spares, best_order(change)) if can_do(change, spares) else None
+    room = Room(change)
+    needed, order = least_order(room)
+    return _plan_along(room, change, spares, order) if needed <= len(spares) else None
 
 
 def shortest_plan(change, spares):
     """A PLAN with the fewest MOVES; None if there is none."""
-    if not can_do(change, spares):
-        return None
-    return _plan_of(change, spares, fewest_moves(frozen(change), cells_of(change, spares)))
+    moves = _fewest(change, spares)
+    return None if moves is None else _plan_of(cells_of(change, spares), tuple(change[0]), moves)
+
+
+def _fewest(change, spares):
+    """The MOVES of such a PLAN; None if there is none."""
+    return fewest_moves(change, cells_of(change, spares)) if can_do(change, spares) else None
 
 
 def fewest_moves_of(change, spares):
     """How few MOVES a PLAN has; None if there is none."""
-    plan = shortest_plan(change, spares)
-    return None if plan is None else len(plan[2])
+    moves = _fewest(change, spares)
+    return None if moves is None else len(moves)
 
 
 def is_shortest(change, spares, thing):

@@ -1,6 +1,6 @@
 """TERMS told by numbers, and what cells hold so told."""
 
-from atanywrite.shapes import COPY
+from atanywrite.shapes import COPY, NO_FUNCTIONS
 
 
 class Pool:
@@ -8,29 +8,35 @@ class Pool:
 
     def __init__(self):
         self.numbers = {}
+        # What tells each TERM, by its number; the first ones as TERMS, made only when they are asked for.
+        self.tellings = []
         self.known = []
 
     def old(self, cell):
         """The number of what this cell held at the beginning."""
-        return self.number_of(("old", cell), ("old", cell))
+        return self.number_of(("old", cell))
 
     def spoilt(self, place):
         """The number of what the loss at this place leaves."""
-        return self.number_of(("spoilt", place), ("spoilt", place))
+        return self.number_of(("spoilt", place))
 
     def made(self, name, parts):
         """The number of what this function makes of the TERMS with these numbers."""
-        return self.number_of((name, parts), (name, self.terms(parts)))
+        return self.number_of((name, parts))
 
-    def number_of(self, key, term):
-        """The number of this TERM; in its key its parts are told by their numbers."""
-        if key not in self.numbers:
-            self.numbers[key] = len(self.known)
-            self.known.append(term)
-        return self.numbers[key]
+    def number_of(self, telling):
+        """The number of the TERM that is told so: as itself, its PARTS by their numbers."""
+        if telling not in self.numbers:
+            self.numbers[telling] = len(self.tellings)
+            self.tellings.append(telling)
+        return self.numbers[telling]
 
     def terms(self, numbers):
         """The tuple of the TERMS with these numbers."""
+        new = self.tellings[len(self.known):]
+        for name, behind in new:
+            parts = behind if name in NO_FUNCTIONS else tuple([self.known[number] for number in behind])
+            self.known.append((name, parts))
         return tuple([self.known[number] for number in numbers])
 
 

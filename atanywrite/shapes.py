@@ -5,10 +5,26 @@ LONGEST_NAME = 8
 COPY = "copy"
 # A TERM that begins with one of these is no function's.
 NO_FUNCTIONS = ("old", "spoilt")
+# Arguments but TERMS are less deep.
+DEEPEST_CALL = 10
 
 
 def frozen(value):
     """The value with tuples in the place of lists, at any depth."""
+    return value if _is_frozen(value, DEEPEST_CALL) else _made_frozen(value)
+
+
+def _is_frozen(value, depth):
+    """Whether nothing in the value is a list, as far as calls so deep can tell."""
+    if not isinstance(value, tuple):
+        return not isinstance(value, list)
+    for part in value:
+        if isinstance(part, (tuple, list)) and (depth == 0 or not _is_frozen(part, depth - 1)):
+            return False
+    return True
+
+
+def _made_frozen(value):
     # TERMS may be deeper than calls may be nested, so what is left to do is kept in a list.
     todo = [(value, False)]
     made = []
@@ -37,9 +53,9 @@ def is_number(thing):
 
 
 def is_name(thing):
-    if not isinstance(thing, str) or not 1 <= len(thing) <= LONGEST_NAME:
+    if not isinstance(thing, str) or len(thing) > LONGEST_NAME:
         return False
-    return all([sign in LETTERS for sign in thing])
+    return thing.isascii() and thing.isalpha() and thing.islower()
 
 
 def is_function(thing):

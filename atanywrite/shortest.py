@@ -6,69 +6,109 @@ from atanywrite.rooms import recipe_term
 from atanywrite.shapes import COPY
 
 # What a spare cell holds at the beginning: no PLAN reads it.
-NO_TERM = -1
+NO_TERM = 0
 
 
 class Search:
-    """TERMS are told by numbers; a state tells for each cell what it holds."""
+    """TERMS are told by numbers from 1; a state tells in one number what the cells hold, the first cell foremost."""
 
     def __init__(self, change, cells):
         blocks, recipes = change
         self.cells = cells
-        numbers = {("old", block): place for place, block in enumerate(blocks)}
-        self.first = tuple([numbers.get(("old", cell), NO_TERM) for cell in cells])
+        numbers = {("old", block): place for place, block in enumerate(blocks, 1)}
+        first = [numbers.get(("old", cell), NO_TERM) for cell in cells]
+        # For each TERM that a function makes this one and what it reads, of which the bits are told together, too.
         self.calls = {}
-        self.goal = []
+        self.needed = {}
+        self.goal = [None] * len(cells)
         for block, (name, reads) in zip(blocks, recipes):
-            number = numbers.setdefault(recipe_term((name, reads)), len(numbers))
-            self.goal.append((list(cells).index(block), number))
+            number = numbers.setdefault(recipe_term((name, reads)), len(numbers) + 1)
+            self.goal[list(cells).index(block)] = number
             if name != COPY:
                 self.calls[number] = (name, [numbers[("old", read)] for read in reads])
+                self.needed[number] = sum([1 << numbers[("old", read)] for read in reads])
+        self.many = len(numbers) + 1
+        width = self.many.bit_length()
+        self.mask = (1 << width) - 1
+        self.shifts = [width * place for place in reversed(range(len(cells)))]
+        self.first = sum([held << shift for held, shift in zip(first, self.shifts)])
+        self.writable = {}
+
+    def held_in(self, state):
+        """What the cells hold in this state."""
+        return [state >> shift & self.mask for shift in self.shifts]
 
     def wrong(self, state):
         """How many blocks' cells do not hold what they ought to: each needs a MOVE more."""
-        return len([place for place, number in self.goal if state[place] != number])
+        pairs = zip(self.held_in(state), self.goal)
+        return len([held for held, number in pairs if number is not None and held != number])
 
-    def is_lost(self, state):
-        """Whether something that ought to be held can come no more."""
-        gone = [number for place, number in self.goal if number not in state]
-        return not all([number in self.calls and self.is_ready(number, state) for number in gone])
+    def is_lost(self, bits):
+        """Whether something that ought to be held can come no more where these TERMS are held."""
+        gone = [number for number in self.goal if number is not None and not bits >> number & 1]
+        return not all([number in self.needed and self.needed[number] & bits == self.needed[number] for number in gone])
 
-    def is_ready(self, number, held):
-        """Whether all that the function of this TERM reads is held."""
-        return all([old in held for old in self.calls[number][1]])
+    def writes(self, others):
+        """The TERMS that a MOVE can write where the other cells hold these, none being lost."""
+        if others not in self.writable:
+            needed = self.needed
+            numbers = [number for number in range(1, self.many) if others >> number & 1
+                       or number in needed and needed[number] & others == needed[number]]
+            self.writable[others] = [number for number in numbers if not self.is_lost(others | 1 << number)]
+        return self.writable[others]
 
-    def writes(self, state):
-        """The pairs of a place and a TERM that a MOVE can write there, not reading that cell."""
+    def steps_from(self, state):
+        """The triples of a place, a TERM that is written there, and the state behind that."""
+        held = self.held_in(state)
+        once = 0
+        twice = 0
+        for number in held:
+            bit = 1 << number
+            twice = twice | (once & bit)
+            once = once | bit
         found = []
-        for place, held in enumerate(state):
-            others = state[:place] + state[place + 1:]
-            ready = [number for number in list(self.calls) if self.is_ready(number, others)]
-            copied = [number for number in others if number != NO_TERM]
-            found.extend([(place, number) for number in sorted(set(ready + copied)) if number != held])
+        for place, (number, shift) in enumerate(zip(held, self.shifts)):
+            others = once if twice >> number & 1 else once - (1 << number)
+            left = state - (number << shift)
+            found.extend([(place, new, left + (new << shift)) for new in self.writes(others) if new != number])
         return found
 
     def steps(self):
         """The fewest writes, in order, that lead to the goal; None if none do."""
         behind = {self.first: None}
         many = {self.first: 0}
+        done = {}
         queue = [(self.wrong(self.first), self.first)]
         while queue:
-            _, state = heappop(queue)
-            if self.wrong(state) == 0:
+            together, state = heappop(queue)
+            wrong = together - many[state]
+            if wrong == 0:
                 return _path(behind, state)
-            for place, number in self.writes(state):
-                other = (*state[:place], number, *state[place + 1:])
-                if many[state] + 1 < many.get(other, many[state] + 2) and not self.is_lost(other):
-                    many[other] = many[state] + 1
+            if state in done:
+                continue
+            done[state] = True
+            next_many = many[state] + 1
+            for place, number, other in self.steps_from(state):
+                if next_many < many.get(other, next_many + 1):
+                    many[other] = next_many
                     behind[other] = (state, place, number)
-                    heappush(queue, (many[other] + self.wrong(other), other))
+                    heappush(queue, (next_many + wrong + self.more_wrong(state, place, number), other))
         return None
+
+    def more_wrong(self, state, place, number):
+        """How many more blocks' cells are wrong when this TERM is written at this place."""
+        goal = self.goal[place]
+        if goal is None:
+            return 0
+        was_wrong = state >> self.shifts[place] & self.mask != goal
+        if was_wrong == (number != goal):
+            return 0
+        return -1 if was_wrong else 1
 
     def move_of(self, state, place, number):
         """The MOVE that writes this TERM at this place."""
         to = self.cells[place]
-        cells = {held: cell for cell, held in zip(self.cells, state) if cell != to}
+        cells = {held: cell for cell, held in zip(self.cells, self.held_in(state)) if cell != to}
         if number in cells:
             return (COPY, (cells[number],), to)
         name, olds = self.calls[number]

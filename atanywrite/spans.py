@@ -15,21 +15,22 @@ def hazards_in(moves, counts, first, last):
     return found
 
 
-def far_end(moves, counts, first):
-    """The greatest end up to which the moves from first on have no HAZARD as a STRETCH; first if there is none."""
+def far_end(moves, counts, first, last):
+    """The greatest end, up to last, to which the moves from first on have no HAZARD as a STRETCH; first without any."""
     read_first = {}
     written = {}
-    for number in range(first, len(moves)):
+    for number in range(first, last):
         _, reads, cell = moves[number]
         if number in counts:
-            for read in [read for read in reads if read not in written]:
-                read_first[read] = True
+            for read in reads:
+                if read not in written:
+                    read_first[read] = True
         if cell in read_first:
             return number
         written[cell] = True
-    return len(moves)
+    return last
 
 
 def far_ends_of(moves, counts):
     """For each spot but the last one the greatest end of a SPAN from there that holds."""
-    return tuple([far_end(moves, counts, first) for first in range(len(moves))])
+    return tuple([far_end(moves, counts, first, len(moves)) for first in range(len(moves))])

@@ -7,22 +7,22 @@ CELL = "cell"
 DEAD = "dead"
 KEEPS = "keeps"
 MARKED = "marked"
-# The parts of EDITS: a number, a cell, a MOVE.
+# What stands behind the first word of an EDIT.
 A_NUMBER = "number"
-A_CELL = "name"
+A_CELL = "cell"
 A_MOVE = "move"
 EDIT_PARTS = {
-    "insert": (A_NUMBER, A_MOVE),
-    "remove": (A_NUMBER,),
-    "replace": (A_NUMBER, A_MOVE),
-    "swap": (A_NUMBER,),
-    "mark": (A_NUMBER,),
-    "clear": (A_NUMBER,),
-    "cell": (A_CELL,),
-    "drop": (A_CELL,),
-    "want": (A_CELL,),
-    "leave": (A_CELL,),
-    "name": (A_CELL, A_CELL),
+    "insert": ("number", "move"),
+    "remove": ("number",),
+    "replace": ("number", "move"),
+    "swap": ("number",),
+    "mark": ("number",),
+    "clear": ("number",),
+    "cell": ("cell",),
+    "drop": ("cell",),
+    "want": ("cell",),
+    "leave": ("cell",),
+    "name": ("cell", "cell"),
 }
 
 

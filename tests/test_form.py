@@ -14,7 +14,6 @@ CALLED = (
 ).split()
 NOT_USED = (
     ast.Import, ast.AsyncFunctionDef, ast.Div, ast.GeneratorExp, ast.Global, ast.Nonlocal, ast.Lambda, ast.Yield,
-    ast.JoinedStr,
 )
 
 
