@@ -55,7 +55,7 @@ def term_from(text):
     """The TERM with this text."""
     term = _read_loosely(text)
     # What is read is right if it is a TERM and written just so.
-    if term is None or not is_term(term) or term_text(term) != text:
+    if not is_term(term) or term_text(term) != text:
         raise BadText(0)
     return term
 
@@ -77,7 +77,7 @@ def _read_loosely(text):
             parts = tuple(open_terms.pop())
             open_terms[-1].append((names.pop(), parts))
         word = "" if sign in "(,)" else word + sign
-    return open_terms[0][0] if names == [] and len(open_terms[0]) == 1 else None
+    return open_terms[0][0] if len(open_terms[0]) == 1 else None
 
 
 def _leaf(word):
@@ -110,7 +110,8 @@ def _edit_of(words):
     parts = edit_parts(words[0])
     if A_MOVE in parts:
         return (words[0], int(words[1]), move_of(words[2:]))
-    return (words[0], *[int(word) if part == A_NUMBER else word for part, word in zip(parts, words[1:])])
+    told = [int(word) if part == A_NUMBER else word for part, word in zip(parts, words[1:])]
+    return (words[0], *told)
 
 
 def is_request(thing):

@@ -23,20 +23,19 @@ class Ground:
         """Whether the cell may be written so that the TERMS needed are still held."""
         return self.held[cell] & needed == 0 or self.held.count(self.held[cell]) > 1
 
-    def source(self, term, cell):
-        """Another cell than this one that holds the TERM."""
-        place = self.held.index(term)
-        return self.cells[self.held.index(term, place + 1) if place == cell else place]
+    def source(self, term):
+        """The first cell that holds the TERM; what is to be written never does."""
+        return self.cells[self.held.index(term)]
 
     def copy_to(self, term, cell):
         """The TERM is copied to this cell."""
-        self.moves.append((COPY, (self.source(term, cell),), self.cells[cell]))
+        self.moves.append((COPY, (self.source(term),), self.cells[cell]))
         self.held[cell] = term
 
     def make(self, place, cell):
         """The TERM of the block at this place is made in this cell by its function."""
         name, reads = self.recipes[place]
-        sources = tuple([self.source(self.room.bits[read], cell) for read in reads])
+        sources = tuple([self.source(self.room.bits[read]) for read in reads])
         self.moves.append((name, sources, self.cells[cell]))
         self.held[cell] = self.room.term_bits[place]
 

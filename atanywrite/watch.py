@@ -107,8 +107,9 @@ class Watch:
 
     def next_harm(self):
         """The least move from here on at which one loss more gives another END than (); None if there is none."""
+        play = self.play()
         for number in range(self.here, len(self._row[2])):
-            if ends_otherwise(self._row, (*self.play(), number)):
+            if ends_otherwise(self._row, (*play, number)):
                 return number
         return None
 
@@ -133,8 +134,6 @@ def words_for(row, play):
 
 def is_words(row, thing):
     """Whether thing is a tuple of deeds that a Watch can do, one behind another."""
-    if not isinstance(thing, tuple) or not all([isinstance(word, str) for word in thing]):
-        return False
-    if not all([word in (DO, LOSE) for word in thing]):
+    if not isinstance(thing, tuple) or not all([word in (DO, LOSE) for word in thing]):
         return False
     return _spots_along(row, 0, thing) is not None

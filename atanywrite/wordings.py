@@ -56,7 +56,7 @@ def is_word_of(row, thing):
         return False
     kind, part = thing
     if kind == CELL:
-        return isinstance(part, str) and part in row[0]
+        return part in row[0]
     if not is_number(part) or part < 0:
         return False
     return kind == MARKED or kind == DEAD and part < len(row[2])

@@ -124,7 +124,7 @@ NO_REQUESTS = [
     "put x cells a; wanted a;", "put x cells a; wanted a; mark; f to a", "put x cells a;wanted a", "put x  cells a; wanted a", "put cells a; wanted a",
     "drop", "drop ", "drop X", "drop x y", "drop x ", "drop  x", "rename x", "rename x Y", "rename x y z", "rename x ninechars", "lose x", "lose x a", "lose x -1",
     "lose x 00", "lose x 01", "lose x 1 2", "keep x", "keep x keep", "keep x dead", "keep x dead 01", "keep x cell A", "keep x cell longercell", "free x",
-    "keep x keeps ", "row", "row X", "row x y", "holds 1", "edit x", "edit x mark", "edit x mark 01", "edit x cell A", "spoilt x", "mended x keeps", "ask x",
+    "keep x keeps ", "row", "row X", "row x y", "holds 1", "edit x", "edit x mark", "edit x mark 01", "edit x cell A", "spoilt x", "mended x keeps", "ask x", "ask x 1",
     "edit x insert 0 f a b", "put x -", "row ninechars", "words x; names", "names;", "undo\u00a0",
 ]
 

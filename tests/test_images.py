@@ -102,7 +102,7 @@ class ImageTest(unittest.TestCase):
                 self.assertFalse(images.is_image(thing), thing)
         wrong = [
             (("b", "p"), ("a", "q")), (("a", "p"), ("a", "q")), (("a", "p"), ("a", "p")), (("a", ""),), (("a", "P"),),
-            (("a", "p q"),), (("a", "p"), ("b", "pq")), (("A", "p"),), (("", "p"),), (("abcdefghi", "p"),), (("a", "p", "q"),),
+            (("a", "p q"),), (("a", "p\u00e4"),), (("a", "\u0561"),), (("a", "p1"),), (("a", "p"), ("b", "pq")), (("A", "p"),), (("", "p"),), (("abcdefghi", "p"),), (("a", "p", "q"),),
             (("a",),), ("ap",), ("ap", "bq"), (("a", ("p",)),), (("a", 1),), ((1, "p"),), ((("a",), "p"),), nested(30), {},
         ]
         for thing in STRANGE + wrong:

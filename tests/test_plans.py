@@ -5,7 +5,7 @@ import unittest
 
 from atanywrite import orders, plans
 from tests import brute
-from tests.common import CHANGE, FULL, ROW, STILL, STRANGE, UNFIT, list_at_each_depth, nested, refusal, with_strange_parts
+from tests.common import CHANGE, FULL, ROW, STILL, STRANGE, UNFIT, list_at_each_depth, listed, nested, refusal, with_strange_parts
 
 CAN_NOT = ("CanNot", {})
 SWAP = (("a", "b"), (("f", ("a", "b")), ("g", ("b",))))
@@ -145,6 +145,14 @@ class PlanTest(unittest.TestCase):
                         self.assertEqual(faults_of(change, spares, plan), ())
                         self.assertLessEqual(len(plan[2]), 18)
         self.assertEqual(len(plans.plan_for(TURN, ("x",))[2]), 8)
+
+    def test_made_where_it_belongs(self):
+        change = (("a", "b", "c"), (("f", ("b",)), ("g", ("c",)), ("copy", ("c",))))
+        moves = (("f", ("b",), "a"), ("g", ("c",), "b"))
+        for own in (change, listed(change)):
+            self.assertEqual(plans.plan_for(own, ("x",)), (("a", "b", "c", "x"), ("a", "b", "c"), moves, (1,)))
+        # Of b first, what b held is still needed; nobody reads a.
+        self.assertEqual(plans.plan_by(change, ("x",), ("b", "a", "c"))[2][0], ("g", ("c",), "a"))
 
     def test_nothing_to_do(self):
         self.assertEqual(plans.plan_for(KEPT, ("x",)), (("a", "b", "c", "x"), ("a", "b", "c"), (), ()))
