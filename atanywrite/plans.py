@@ -81,7 +81,8 @@ def _faults(change, spares, row):
     pool = Pool()
     held = held_at_first(pool, cells)
     goal = [number_by(pool, held, (*recipe, block)) for block, recipe in zip(change[0], change[1])]
-    right = {number: True for number in [*goal, *[held[block] for block in wanted]]}
+    olds = [held[block] for block in wanted]
+    right = {number: True for number in goal + olds}
     written = []
     for move in moves:
         written.append(number_by(pool, held, move))
